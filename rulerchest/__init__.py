@@ -1,0 +1,1 @@
+"""Rulerchest: which tools reach a point."""

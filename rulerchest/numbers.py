@@ -1,0 +1,195 @@
+"""Numbers over towers, and reckoning with them."""
+
+from rulerchest.basis import (
+    NEAR_BITS, bare_basis, brought, negative, padded, parts_of_value, settled_value, trimmed_value,
+    value_difference, value_floor, value_inverse, value_of_parts, value_order, value_product, value_sign, value_sum,
+)
+from rulerchest.errors import BadNumber, BadParts, NoQuotient, NotNumber
+from rulerchest.judging import are_fractions, is_whole
+from rulerchest.towers import Tower, check_tower, tower_on
+
+
+class Number:
+    """A number over a tower: the sum of its parts, each times a product of roots."""
+
+    def __init__(self, tower, parts):
+        check_tower(tower)
+        if not are_fractions(parts, len(tower.basis.weights)):
+            raise BadParts("parts are no tuple of as many fractions as the tower has products of roots")
+        self.tower = tower
+        self.parts = parts
+        self.value = value_of_parts(tower.basis, parts)
+
+    def __eq__(self, other):
+        return isinstance(other, Number) and have_one_value(self, other)
+
+
+def is_number(value):
+    """Whether any value is a Number."""
+    return isinstance(value, Number)
+
+
+def check_number(value):
+    """Raise NotNumber unless any value is a Number."""
+    if not is_number(value):
+        raise NotNumber("no Number")
+
+
+def check_numbers(one, other):
+    """Raise NotNumber unless both are Numbers."""
+    check_number(one)
+    check_number(other)
+
+
+def number_on(tower, value):
+    """The Number with a value over the basis of the tower."""
+    number = Number(Tower(), ((0, 1),))
+    number.tower = tower
+    number.parts = parts_of_value(tower.basis, value)
+    number.value = value
+    return number
+
+
+def fraction(n, d=1):
+    """The Number n / d over the tower without rows."""
+    if not is_whole(n) or not is_whole(d) or d < 1:
+        raise BadNumber("no whole by a whole from 1 on")
+    return number_on(Tower(), settled_value((n,), d))
+
+
+def fraction_of(number):
+    """The fraction that the number equals, or None."""
+    check_number(number)
+    if any(number.value[0][1:]):
+        return None
+    return number.parts[0]
+
+
+def joined(tower, towards):
+    """The tower that goes on with those roots of towards that are not there already."""
+    check_tower(tower)
+    check_tower(towards)
+    zero = padded(((0,), 1), len(towards.basis.weights))
+    basis, _ = brought(tower.basis, towards.basis, zero)
+    return tower_on(basis)
+
+
+def placed(number, tower):
+    """The equal Number over the tower, or None."""
+    check_number(number)
+    check_tower(tower)
+    basis, value = brought(tower.basis, number.tower.basis, number.value)
+    size = len(tower.basis.weights)
+    xs, den = padded(value, len(basis.weights))
+    if any(xs[size:]):
+        return None
+    return number_on(tower, (xs[:size], den))
+
+
+def trimmed(number):
+    """The equal Number over the used rows of its tower alone."""
+    check_number(number)
+    basis, value = trimmed_value(number.tower.basis, number.value)
+    if len(basis.rows) == len(number.tower.squares):
+        return number
+    return number_on(tower_on(basis), value)
+
+
+def together(one, other):
+    """The tower to which the towers of both are joined, and both values over it."""
+    if one.tower.squares == other.tower.squares:
+        return one.tower, one.value, other.value
+    basis, value = brought(one.tower.basis, other.tower.basis, other.value)
+    return tower_on(basis), padded(one.value, len(basis.weights)), value
+
+
+def levelled(numbers):
+    """Equal Numbers over one tower, to which the towers of all are joined."""
+    basis = bare_basis()
+    values = []
+    for number in numbers:
+        basis, value = brought(basis, number.tower.basis, number.value)
+        values.append(value)
+    tower = tower_on(basis)
+    return [number_on(tower, padded(value, len(basis.weights))) for value in values]
+
+
+def plus(one, other):
+    """The sum."""
+    check_numbers(one, other)
+    tower, first, second = together(one, other)
+    return number_on(tower, value_sum(first, second))
+
+
+def minus(one, other):
+    """The difference, one less other."""
+    check_numbers(one, other)
+    tower, first, second = together(one, other)
+    return number_on(tower, value_difference(first, second))
+
+
+def times(one, other):
+    """The product."""
+    check_numbers(one, other)
+    tower, first, second = together(one, other)
+    return number_on(tower, value_product(tower.basis, first, second))
+
+
+def over(one, other):
+    """The quotient, one by other."""
+    check_numbers(one, other)
+    if not any(other.value[0]):
+        raise NoQuotient("a quotient by zero")
+    tower, first, second = together(one, other)
+    return number_on(tower, value_product(tower.basis, first, value_inverse(tower.basis, second)))
+
+
+def negated(number):
+    """The Number with the other sign, over its tower."""
+    check_number(number)
+    return number_on(number.tower, negative(number.value))
+
+
+def sign(number):
+    """1 above zero, 0, or -1 below."""
+    check_number(number)
+    return value_sign(number.tower.basis, number.value)
+
+
+def compare(one, other):
+    """The sign of one less other."""
+    check_numbers(one, other)
+    if one == other:
+        return 0
+    bits = NEAR_BITS
+    while True:
+        found = order_within(one, other, bits)
+        if found != 0:
+            return found
+        bits = bits * 2
+
+
+def order_within(one, other, bits):
+    """-1 or 1 if bounds of so many bits tell the order of both, otherwise 0."""
+    return value_order(one.tower.basis, one.value, other.tower.basis, other.value, bits)
+
+
+def have_one_value(one, other):
+    """Whether two Numbers are equal."""
+    if one.tower.squares == other.tower.squares:
+        return one.value == other.value
+    # Most unlike Numbers are told apart by bounds, without joining their towers.
+    if order_within(one, other, NEAR_BITS) != 0:
+        return False
+    first, found = trimmed_value(one.tower.basis, one.value)
+    second, wanted = trimmed_value(other.tower.basis, other.value)
+    basis, value = brought(first, second, wanted)
+    return padded(found, len(basis.weights)) == value
+
+
+def floor_at(number, d):
+    """The greatest whole n for which n / d is at most the number."""
+    check_number(number)
+    if not is_whole(d) or d < 1:
+        raise BadNumber("no whole from 1 on")
+    return value_floor(number.tower.basis, number.value, d)

@@ -1,0 +1,53 @@
+"""The interface: names, parameters, and the files in which they are defined."""
+
+import importlib
+import inspect
+import unittest
+
+INTERFACE = {
+    "towers": "Tower(squares=()) is_tower(value)",
+    "numbers": "Number(tower,parts) is_number(value) fraction(n,d=1) fraction_of(number) joined(tower,towards) "
+               "placed(number,tower) trimmed(number) plus(one,other) minus(one,other) times(one,other) over(one,other) "
+               "negated(number) sign(number) compare(one,other) floor_at(number,d)",
+    "squareroots": "root_within(number) root(number) hyp(one,other)",
+    "numbertexts": "number_text(number) number_of(text)",
+    "plane": "is_point(value) sheet() cross(a,b,c) side(a,b,c) dot(a,b,c,d) square_length(a,b) meet_of(a,b,c,d) "
+             "line_circle(a,b,m,s) circle_circle(m,s,n,t) moved(points,turn)",
+    "tools": "is_deed(value) is_drawing(value) names_of(deed) tool_of(deed) on_names(deed,table) laid(deed,points)",
+    "chests": "is_chest(value) set_of(chest) joint(one,other) no_more(one,other) chests_with(word) least_chests(word) "
+              "first_barred(steps,chest) witness(tool)",
+    "drawings": "is_sequel(value,names) drawn_from(points,sequel) drawn(steps) chest_of(steps) needed(steps,names) "
+                "layable(steps) ordered(steps,names) settled(steps) renamed(steps,table) like(one,other) "
+                "same_points(steps) merged(steps)",
+    "unfolding": "is_program(value) holds(question,points) unfolded(program,given) ran(program,given) flat(program)",
+}
+
+
+class InterfaceTests(unittest.TestCase):
+    def test_names_and_parameters(self):
+        for name, entries in INTERFACE.items():
+            module = importlib.import_module("rulerchest." + name)
+            for entry in entries.split():
+                word = entry.split("(")[0]
+                value = getattr(module, word)
+                self.assertEqual(value.__module__, "rulerchest." + name)
+                shown = str(inspect.signature(value)).replace(" ", "")
+                self.assertEqual(word + shown, entry)
+
+    def test_attributes_and_methods(self):
+        from rulerchest.numbers import Number
+        from rulerchest.towers import Tower
+        for made, attributes in ((Tower(), ["squares"]), (Number(Tower(), ((1, 1),)), ["tower", "parts"])):
+            for attribute in attributes:
+                self.assertIn(attribute, vars(made))
+            self.assertIn("__eq__", vars(made.__class__))
+
+    def test_the_package_itself_defines_nothing(self):
+        import rulerchest
+        made = [name for name in vars(rulerchest) if not name.startswith("__")]
+        modules = [name for name in made if inspect.ismodule(getattr(rulerchest, name))]
+        self.assertEqual(sorted(made), sorted(modules))
+
+
+if __name__ == "__main__":
+    unittest.main()
