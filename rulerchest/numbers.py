@@ -174,13 +174,20 @@ def order_within(one, other, bits):
     return value_order(one.tower.basis, one.value, other.tower.basis, other.value, bits)
 
 
+def longest(number):
+    """How many bits the longest whole has that is kept for the Number."""
+    xs, den = number.value
+    return max([x.bit_length() for x in xs] + [den.bit_length()])
+
+
 def have_one_value(one, other):
     """Whether two Numbers are equal."""
     if one.tower.squares == other.tower.squares:
         return one.value == other.value
-    # Most unlike Numbers are told apart by bounds, without joining their towers.
-    if order_within(one, other, NEAR_BITS) != 0:
-        return False
+    # Unlike Numbers are nearly always told apart by bounds, without joining their towers.
+    for bits in (NEAR_BITS, NEAR_BITS + longest(one) + longest(other)):
+        if order_within(one, other, bits) != 0:
+            return False
     first, found = trimmed_value(one.tower.basis, one.value)
     second, wanted = trimmed_value(other.tower.basis, other.value)
     basis, value = brought(first, second, wanted)

@@ -1,6 +1,7 @@
 """The rules for the files of the package, as far as the code shows them."""
 
 import ast
+import builtins
 import pathlib
 import re
 import unittest
@@ -183,7 +184,7 @@ class LanguageTests(unittest.TestCase):
                 is_method = isinstance(node, ast.FunctionDef) and isinstance(parents[node], ast.ClassDef)
                 if not is_method:
                     self.assertNotIn(bound, taken)
-                self.assertNotIn(bound, BANNED_NAMES | BUILTINS, bound)
+                self.assertNotIn(bound, BANNED_NAMES | set(dir(builtins)) - {"_"}, bound)
                 if not isinstance(node, ast.ClassDef):
                     self.assertNotIn(bound, classes)
 
