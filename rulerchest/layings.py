@@ -53,9 +53,8 @@ def lay_halver(places, _):
     second = way_to(p, b)
     square = within(first, first)
     # Both rays made as long as each other: one root is enough for both lengths.
+    # Where one ray has no length, or the rays are opposite, half has none either.
     length = root(times(square, within(second, second)))
-    if sign(length) == 0:
-        return None
     half = shifted(stretch(first, length), stretch(second, square))
     return line_meet(p, half, c, way_to(c, d))
 

@@ -18,7 +18,8 @@ from rulerchest.towers import Tower
 
 R = root(fraction(2))
 O, U, V = point(0, 0), point(1, 0), point(0, 1)
-NO_POINTS = odd_values() + [(fraction(1),), (fraction(1), 1), (fraction(1), fraction(1), fraction(1)),
+NO_POINTS = odd_values() + [(fraction(1),), (fraction(1), 1), (1, fraction(1)),
+                            (None, fraction(1)), (fraction(1), fraction(1), fraction(1)),
                             [fraction(1), fraction(1)], (1, 2)]
 NO_NUMBERS = [value for value in odd_values() if not isinstance(value, Number)]
 

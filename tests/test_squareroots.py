@@ -45,6 +45,21 @@ class RootWithinTests(unittest.TestCase):
                 self.assertEqual(found.tower, tower)
                 self.assertEqual(found, number if sign(number) >= 0 else negated(number))
 
+    def test_squares_over_rows_with_square_factors(self):
+        chance = chance_with(32)
+        squares = ((((8, 1),),), (((1, 12),),), (((8, 1),), ((12, 1), (0, 1))), (((50, 7),), ((3, 4), (1, 8))),
+                   (((20, 1),), ((9, 2), (3, 4))), (((5, 1),), ((12, 1), (4, 1)), ((7, 9), (0, 1), (0, 1), (0, 1))))
+        for rows in squares:
+            tower = Tower(rows)
+            for _ in range(25):
+                number = random_number(chance, tower, 9)
+                found = root_within(times(number, number))
+                self.assertEqual(found.tower, tower)
+                self.assertEqual(found, number if sign(number) >= 0 else negated(number))
+                other = random_number(chance, tower, 9)
+                if sign(other) != 0:
+                    self.assertEqual(product_of_parts(over(number, other).parts, other.parts, rows), number.parts)
+
     def test_multiples_of_roots(self):
         self.assertEqual(root_within(Number(TWO, ((2, 1), (0, 1)))).parts, ((0, 1), (1, 1)))
         self.assertEqual(root_within(Number(TWO, ((1, 2), (0, 1)))).parts, ((0, 1), (1, 2)))

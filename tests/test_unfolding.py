@@ -69,8 +69,10 @@ class ProgramTests(unittest.TestCase):
         self.no([GO[:3]])
         for name in ("Go", "", None, 1, ("go",), "abcdefghi"):
             self.no([(name,) + GO[1:]])
-        for params in (["a"], ("a", "a"), ("o",), ("A",), (None,), None, "a", {"a": 1}, (["a"],)):
+        for params in (["a"], ("a", "a"), ("o",), ("A",), (None,), None, "a", {"a": 1}, (["a"],), ("a", "vv")):
             self.no([("go", params) + GO[2:]])
+            self.no([("go", params, [], ("u",))])
+        self.yes([("go", ("a", "b"), [], ("u",))])
         for results in ((), ["b"], ("c",), (None,), None, "b", ("b", "B"), (["b"],)):
             self.no([GO[:3] + (results,)])
         self.yes([GO[:3] + (("b", "a", "vv"),)])
@@ -485,6 +487,18 @@ class FlatTests(unittest.TestCase):
         self.assertEqual(unfolded(found, []), unfolded(program, []))
         self.assertEqual(unfolded(found, [])[2], ("u", "v", "vv", "vv"))
 
+    def test_names_of_called_routines_stay_within(self):
+        ask = ("if", ("same", "o", "u"), [("is", "a", "u")], [("is", "b", "u"), ("is", "a", "v")])
+        first = ("first", ("c",), [("is", "d", "c")], ("c", "d"))
+        second = ("second", ("e",), [("repeat", 2, [("is", "f", "e"), ask]), ("call", ("g", "h"), "first", ("f",)),
+                                     ("if", ("same", "o", "o"), [("call", ("i", "j"), "first", ("a",))], [])], ("g",))
+        names = ("a", "b", "c", "d", "e", "f", "g", "h", "i", "j")
+        block = [("is", name, "vv") for name in names] + [("call", ("k",), "second", ("uu",))]
+        program = [first, second, ("main", (), block, names + ("k",))]
+        found = self.check(program)
+        self.assertEqual(unfolded(program, [])[2], ("vv",) * 10 + ("uu",))
+        self.assertEqual(unfolded(found, []), unfolded(program, []))
+
     def test_blocks_are_new(self):
         ask = ("if", ("same", "o", "u"), [("draw", "a", MEET)], [("is", "a", "o")])
         found = flat(main([("repeat", 2, [ask])], ("a",)))
@@ -503,7 +517,11 @@ class FlatTests(unittest.TestCase):
         self.assertEqual(len(self.check(main([("repeat", 20, [one] * 10)]))[0][2]), 200)
         self.check(main([("repeat", 20, [one] * 10), ("repeat", 0, [one] * 10)]))
         self.check(main([("repeat", 20, [ask, ask]), ("repeat", 10, [ask])]))
+        other = ("if", ("same", "o", "u"), [one, one, one], [one])
+        self.check(main([("repeat", 20, [other, other])]))
+        self.check(main([("repeat", 1, [one] * 100), ("repeat", 1, [("repeat", 2, [one] * 50)])]))
         for block in ([("repeat", 20, [one] * 10), one], [("repeat", 20, [ask, ask, one, one]), one],
+                      [("repeat", 20, [other, other]), one], [("repeat", 1, [one] * 100), ("repeat", 1, [one] * 101)],
                       [("repeat", 20, [("repeat", 20, [one])])], [("repeat", 20, [one] * 10), ("is", "b", "o")]):
             with self.assertRaises(TooLong):
                 flat(main(block))
@@ -541,6 +559,10 @@ class FlatTests(unittest.TestCase):
         with self.assertRaises(TooLong):
             flat(program)
         self.check([deep, ("main", (), [("repeat", 0, program[1][2])], ("o",))])
+        empty = [("repeat", 0, [("draw", "a", MEET)])]
+        for _ in range(4):
+            empty = [("if", ("same", "o", "o"), empty, [])]
+        self.check([("deep", (), empty, ("u",)), ("main", (), [("if", ("same", "o", "u"), [call], [])], ("o",))])
 
     def test_repeats_of_nothing(self):
         block = []
