@@ -54,11 +54,18 @@ def check_word(value):
 def set_of(chest):
     """The word of the set that the chest reaches."""
     check_chest(chest)
-    if any([tool in TOOLS_FOR_ALL for tool in chest]):
-        return "all"
-    if any([tool in TOOLS_FOR_MIDDLE for tool in chest]):
-        return "middle"
-    return "fractions"
+    return word_of_tools(chest)
+
+
+def word_of_tools(chest):
+    """The word of the set that a known chest reaches."""
+    word = WORDS[0]
+    for tool in chest:
+        if tool in TOOLS_FOR_ALL:
+            return WORDS[2]
+        if tool in TOOLS_FOR_MIDDLE:
+            word = WORDS[1]
+    return word
 
 
 def joint(one, other):
@@ -79,18 +86,22 @@ def chests_with(word):
     chests = [()]
     for tool in TOOLS:
         chests = chests + [chest + (tool,) for chest in chests]
-    return sorted([chest for chest in chests if set_of(chest) == word])
+    return sorted([chest for chest in chests if word_of_tools(chest) == word])
 
 
 def least_chests(word):
     """The ascending list of the chests with this set that have no other one with it as a part."""
-    chests = chests_with(word)
-    return [chest for chest in chests if not any([is_part(part, chest) for part in chests])]
+    least = []
+    # With the smaller ones ahead, whatever has another one as a part has a least one as a part.
+    for _, chest in sorted([(len(chest), chest) for chest in chests_with(word)]):
+        if not any([is_part(part, chest) for part in least]):
+            least.append(chest)
+    return sorted(least)
 
 
 def is_part(part, chest):
-    """Whether another chest is a part of the chest."""
-    return part != chest and all([tool in chest for tool in part])
+    """Whether the chest has all tools of the part."""
+    return all([tool in chest for tool in part])
 
 
 def first_barred(steps, chest):

@@ -88,6 +88,27 @@ class ChestTests(unittest.TestCase):
         self.assertEqual(least_chests("middle"), [("dividers",), ("gauge",), ("halver",), ("strip",)])
         self.assertEqual(least_chests(word="all"), [("compass",), ("corner",), ("disc",), ("rims",)])
 
+    def test_least_chests_against_all_chests(self):
+        for word in WORDS:
+            chests, least = chests_with(word), least_chests(word)
+            self.assertEqual(least, sorted(least))
+            for chest in chests:
+                parts = [part for part in chests if part != chest and set(part) <= set(chest)]
+                self.assertEqual(chest in least, not parts, chest)
+                if parts:
+                    self.assertTrue(any(set(part) <= set(chest) for part in least), chest)
+
+    def test_lists_are_new_at_each_call(self):
+        for work in (chests_with, least_chests):
+            for word in WORDS:
+                found = work(word)
+                before = list(found)
+                found.reverse()
+                found.append(("gauge", "gauge"))
+                found[0] = ()
+                self.assertEqual(work(word), before)
+                self.assertIsNot(work(word), work(word))
+
     def test_wrong_words(self):
         for value in odd_values() + ["All", "everything", ["all"], ("all",), "square"]:
             for work in (chests_with, least_chests):
