@@ -9,16 +9,28 @@ from rulerchest.judging import are_fractions, is_whole
 from rulerchest.towers import Tower, check_tower, tower_on
 
 
+class Known:
+    """The parts of a Number and its value, both known to be right: they are not judged again."""
+
+    def __init__(self, parts, value):
+        self.parts = parts
+        self.value = value
+
+
 class Number:
     """A number over a tower: the sum of its parts, each times a product of roots."""
 
     def __init__(self, tower, parts):
-        check_tower(tower)
-        if not are_fractions(parts, len(tower.basis.weights)):
-            raise BadParts("parts are no tuple of as many fractions as the tower has products of roots")
         self.tower = tower
-        self.parts = parts
-        self.value = value_of_parts(tower.basis, parts)
+        if isinstance(parts, Known):
+            self.parts = parts.parts
+            self.value = parts.value
+        else:
+            check_tower(tower)
+            if not are_fractions(parts, len(tower.basis.weights)):
+                raise BadParts("parts are no tuple of as many fractions as the tower has products of roots")
+            self.parts = parts
+            self.value = value_of_parts(tower.basis, parts)
 
     def __eq__(self, other):
         return isinstance(other, Number) and have_one_value(self, other)
@@ -43,11 +55,7 @@ def check_numbers(one, other):
 
 def number_on(tower, value):
     """The Number with a value over the basis of the tower."""
-    number = Number(Tower(), ((0, 1),))
-    number.tower = tower
-    number.parts = parts_of_value(tower.basis, value)
-    number.value = value
-    return number
+    return Number(tower, Known(parts_of_value(tower.basis, value), value))
 
 
 def fraction(n, d=1):
@@ -159,14 +167,14 @@ def sign(number):
 def compare(one, other):
     """The sign of one less other."""
     check_numbers(one, other)
-    if one == other:
-        return 0
     bits = NEAR_BITS
-    while True:
-        found = order_within(one, other, bits)
-        if found != 0:
-            return found
+    found = order_within(one, other, bits)
+    if found != 0 or one == other:
+        return found
+    while found == 0:
         bits = bits * 2
+        found = order_within(one, other, bits)
+    return found
 
 
 def order_within(one, other, bits):

@@ -1,11 +1,15 @@
 """Points of the plane, and where lines and circles meet."""
 
+from rulerchest.basis import settled_value
 from rulerchest.errors import BadPoints, BadRadius, BadTurn, EqualPoints, NotPoint
 from rulerchest.judging import are_fractions, is_name, is_tuple_of
-from rulerchest.numbers import (
-    check_number, fraction, is_number, levelled, minus, negated, over, plus, sign, times, trimmed,
+from rulerchest.levels import (
+    across, is_still, level_of, level_of_points, line_meet, on_both_circles, on_line_at, square_of, vector_sign,
+    way_to, within,
 )
-from rulerchest.squareroots import root
+from rulerchest.numbers import check_number, fraction, is_number, minus, number_on, plus, times, trimmed
+from rulerchest.towers import tower_on
+from rulerchest.vectors import stretched
 
 
 def is_point(value):
@@ -33,142 +37,86 @@ def sheet():
     return {"o": (zero, zero), "u": (one, zero), "uu": (two, zero), "v": (zero, one), "vv": (zero, two)}
 
 
-def level_points(places):
-    """Equal points, all coordinates over one tower."""
-    coordinates = levelled([trimmed(number) for place in places for number in place])
-    return [(coordinates[at], coordinates[at + 1]) for at in range(0, len(coordinates), 2)]
-
-
 def trimmed_point(place):
     """The equal point whose coordinates have no rows that they do not use."""
     return (trimmed(place[0]), trimmed(place[1]))
 
 
-def way_to(a, b):
-    """The direction from a to b."""
-    return (minus(b[0], a[0]), minus(b[1], a[1]))
-
-
-def turned_left(course):
-    """The direction a quarter to the left."""
-    return (negated(course[1]), course[0])
-
-
-def across(course, other):
-    """The area of the directions: 0 if they are parallel."""
-    return minus(times(course[0], other[1]), times(course[1], other[0]))
-
-
-def within(course, other):
-    """The inner product of the directions: 0 if they are at right angles."""
-    return plus(times(course[0], other[0]), times(course[1], other[1]))
-
-
-def stretch(course, number):
-    """The direction times the number."""
-    return (times(course[0], number), times(course[1], number))
-
-
-def shifted(a, course):
-    """The point to which the direction leads from a."""
-    return (plus(a[0], course[0]), plus(a[1], course[1]))
+def number_over(level, xs):
+    """The Number of a vector that is a product of two of the level."""
+    return number_on(tower_on(level.basis), settled_value(xs, level.den * level.den))
 
 
 def cross(a, b, c):
     """The area of the ways from a to b and from a to c."""
     check_points((a, b, c))
-    a, b, c = level_points((a, b, c))
-    return across(way_to(a, b), way_to(a, c))
+    level = level_of_points((a, b, c))
+    return number_over(level, area_of(level))
+
+
+def area_of(level):
+    """The area of the ways from the first of three places to the others."""
+    a, b, c = level.places()
+    return across(level.basis.rows, way_to(a, b), way_to(a, c))
 
 
 def side(a, b, c):
     """1 if c lies to the left of the way from a to b, -1 to the right, 0 on the line."""
-    return sign(cross(a, b, c))
+    check_points((a, b, c))
+    level = level_of_points((a, b, c))
+    return vector_sign(level.basis, area_of(level))
 
 
 def dot(a, b, c, d):
     """The inner product of the ways from a to b and from c to d."""
     check_points((a, b, c, d))
-    a, b, c, d = level_points((a, b, c, d))
-    return within(way_to(a, b), way_to(c, d))
+    level = level_of_points((a, b, c, d))
+    a, b, c, d = level.places()
+    return number_over(level, within(level.basis.rows, way_to(a, b), way_to(c, d)))
 
 
 def square_length(a, b):
     """The square of the length ab."""
-    return dot(a, b, a, b)
-
-
-def line_meet(a, course, c, other):
-    """The point of the lines through a and c in two directions, None if they are parallel or no directions."""
-    area = across(course, other)
-    if sign(area) == 0:
-        return None
-    return shifted(a, stretch(course, over(across(way_to(a, c), other), area)))
+    check_points((a, b))
+    level = level_of_points((a, b))
+    a, b = level.places()
+    return number_over(level, square_of(level.basis.rows, way_to(a, b)))
 
 
 def meet_of(a, b, c, d):
     """The point of the lines ab and cd, None if they are parallel or the same."""
     check_points((a, b, c, d))
-    if a == b or c == d:
-        raise EqualPoints("a line through equal points")
-    a, b, c, d = level_points((a, b, c, d))
-    found = line_meet(a, way_to(a, b), c, way_to(c, d))
-    return None if found is None else trimmed_point(found)
-
-
-def on_line_at(a, b, m, s):
-    """The points of the line ab at the square distance s from m, in the order from a to b."""
+    level = level_of_points((a, b, c, d))
+    a, b, c, d = level.places()
     course = way_to(a, b)
-    square = within(course, course)
-    back = way_to(m, a)
-    half = within(back, course)
-    rest = minus(times(half, half), times(square, minus(within(back, back), s)))
-    if sign(rest) < 0:
-        return []
-    spread = root(rest)
-    found = [over(minus(spread, half), square)]
-    if sign(spread) > 0:
-        found = [over(negated(plus(half, spread)), square)] + found
-    return [shifted(a, stretch(course, share)) for share in found]
+    other = way_to(c, d)
+    if is_still(course) or is_still(other):
+        raise EqualPoints("a line through equal points")
+    return line_meet(level.basis, level.den, a, course, c, other)
+
+
+def level_with(points, numbers):
+    """The level of the points and then of the Numbers."""
+    return level_of([number for place in points for number in place] + list(numbers))
+
+
+def check_radii(level, many):
+    """Raise BadRadius if one of the last Numbers of the level is below zero."""
+    for xs in level.vectors[-many:]:
+        if vector_sign(level.basis, xs) < 0:
+            raise BadRadius("a square distance below zero")
 
 
 def line_circle(a, b, m, s):
     """The points of the line ab at the square distance s from m, in the order from a to b."""
     check_points((a, b, m))
     check_number(s)
-    if a == b:
+    level = level_with((a, b, m), (s,))
+    a, b, m = level.places()[:3]
+    if is_still(way_to(a, b)):
         raise EqualPoints("a line through equal points")
-    if sign(s) < 0:
-        raise BadRadius("a square distance below zero")
-    a, b, m, s = level_with((a, b, m), (s,))
-    return [trimmed_point(place) for place in on_line_at(a, b, m, s)]
-
-
-def level_with(places, numbers):
-    """Equal points and then equal Numbers, all over one tower."""
-    many = 2 * len(places)
-    coordinates = [number for place in places for number in place]
-    level = levelled([trimmed(number) for number in coordinates + list(numbers)])
-    return [(level[at], level[at + 1]) for at in range(0, many, 2)] + level[many:]
-
-
-def on_both_circles(m, s, n, t):
-    """The points at the square distances s from m and t from n, the left one first."""
-    course = way_to(m, n)
-    square = within(course, course)
-    # Twice the share of the way, times its square length, so that the root is one of fewer fractions.
-    double = minus(plus(square, s), t)
-    rest = minus(times(fraction(4), times(square, s)), times(double, double))
-    if sign(rest) < 0:
-        return []
-    under = plus(square, square)
-    foot = shifted(m, stretch(course, over(double, under)))
-    spread = root(rest)
-    if sign(spread) == 0:
-        return [foot]
-    share = over(spread, under)
-    left = turned_left(course)
-    return [shifted(foot, stretch(left, share)), shifted(foot, stretch(left, negated(share)))]
+    check_radii(level, 1)
+    return on_line_at(level.basis, level.den, a, b, m, stretched(level.vectors[6], level.den))
 
 
 def circle_circle(m, s, n, t):
@@ -177,12 +125,13 @@ def circle_circle(m, s, n, t):
     check_number(s)
     check_points((n,))
     check_number(t)
-    if m == n:
+    level = level_with((m, n), (s, t))
+    m, n = level.places()[:2]
+    if is_still(way_to(m, n)):
         raise EqualPoints("circles about equal points")
-    if sign(s) < 0 or sign(t) < 0:
-        raise BadRadius("a square distance below zero")
-    m, n, s, t = level_with((m, n), (s, t))
-    return [trimmed_point(place) for place in on_both_circles(m, s, n, t)]
+    check_radii(level, 2)
+    first, second = [stretched(xs, level.den) for xs in level.vectors[4:]]
+    return on_both_circles(level.basis, level.den, m, first, n, second)
 
 
 def is_turn(value):

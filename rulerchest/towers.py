@@ -1,6 +1,6 @@
 """Towers of square roots."""
 
-from rulerchest.basis import basis_of
+from rulerchest.basis import Basis, basis_of
 from rulerchest.errors import NotTower
 
 
@@ -8,7 +8,8 @@ class Tower:
     """At most six rows, each one the square of the root that it adds."""
 
     def __init__(self, squares=()):
-        basis = basis_of(squares)
+        # A basis comes from the package itself: its rows are known to be right and are not judged again.
+        basis = squares if isinstance(squares, Basis) else basis_of(squares)
         if basis is None:
             raise NotTower("squares are no tuple of rows of a tower")
         self.squares = basis.squares
@@ -30,8 +31,5 @@ def check_tower(value):
 
 
 def tower_on(basis):
-    """The Tower of a basis; its rows are known to be right, so that they are not judged again."""
-    tower = Tower()
-    tower.squares = basis.squares
-    tower.basis = basis
-    return tower
+    """The Tower of a basis."""
+    return Tower(basis)
