@@ -39,6 +39,11 @@ def question_with_names(question, table):
     return question[:1] + tuple([table[name] if name in table else name for name in question[1:]])
 
 
+def names_of_sheet():
+    """The names that are set everywhere."""
+    return {name: True for name in SHEET_NAMES}
+
+
 def are_set(names, known):
     """Whether all names are set."""
     return all([name in known for name in names])
@@ -150,7 +155,7 @@ def is_routine(value, routines):
         return False
     if not isinstance(results, tuple) or len(results) == 0 or not all([is_name(name) for name in results]):
         return False
-    behind = behind_block(block, and_set(and_set({}, SHEET_NAMES), params), routines, 1)
+    behind = behind_block(block, and_set(names_of_sheet(), params), routines, 1)
     return behind is not None and are_set(results, behind)
 
 

@@ -24,6 +24,11 @@ def stretched(xs, factor):
     return [x * factor for x in xs]
 
 
+def times_each(xs, factors):
+    """The vector, each whole times the factor of its place."""
+    return [x * factor for x, factor in zip(xs, factors)]
+
+
 def reduced(xs, den):
     """The same quotient of a vector and a whole in lowest terms."""
     common = den

@@ -109,3 +109,58 @@ def point(x, y):
 def as_number(value):
     """A Number that is given or made of a whole or of one of Python's fractions."""
     return value if isinstance(value, Number) else fraction(*pair(value))
+
+
+# Roots beside one another and roots within roots; in some of these towers roots are
+# not real when others are taken the other way.
+TOWERS = [
+    Tower(), TWO, NESTED, BESIDE, THREE, DEEP,
+    Tower((((2, 1),), ((0, 1), (1, 1)))),
+    Tower((((2, 1),), ((1, 1), (1, 1)))),
+    Tower((((5, 1),), ((1, 2), (1, 2)))),
+    Tower((((1, 2),), ((3, 4), (0, 1)), ((2, 1), (0, 1), (1, 1), (0, 1)))),
+    Tower((((2, 1),), ((0, 1), (1, 1)), ((0, 1), (0, 1), (3, 1), (0, 1)))),
+    Tower((((2, 1),), ((0, 1), (1, 1)), ((3, 1), (1, 1), (0, 1), (0, 1)))),
+]
+
+
+def all_values(number):
+    """The number and all that come of it by turning roots, as complex floats: signs of the first roots come first."""
+    found = []
+    for signs in itertools.product((1, -1), repeat=len(number.tower.squares)):
+        roots = []
+        for parts, sign in zip(number.tower.squares, signs):
+            roots.append(sign * complex_value(parts, roots) ** 0.5)
+        found.append(complex_value(number.parts, roots))
+    return found
+
+
+def complex_value(parts, roots):
+    """The sum of the parts times the products of complex roots."""
+    total = complex(0)
+    for at, (n, d) in enumerate(parts):
+        term = complex(n) / d
+        for row, value in enumerate(roots):
+            if at >> row & 1:
+                term = term * value
+        total += term
+    return total
+
+
+def is_real_value(value):
+    """Whether a complex float may be taken for a real one."""
+    return abs(value.imag) < 1e-7
+
+
+def different(values):
+    """The complex floats, those that are nearly equal taken once."""
+    found = []
+    for value in values:
+        if all(abs(value - other) > 1e-6 for other in found):
+            found.append(value)
+    return found
+
+
+def is_settled_fraction(value):
+    """Whether any value is a fraction as the document tells it."""
+    return isinstance(value, tuple) and pair(Fraction(*value)) == value and all(type(item) is int for item in value)
