@@ -20,6 +20,26 @@ INTERFACE = {
                 "layable(steps) ordered(steps,names) settled(steps) renamed(steps,table) like(one,other) "
                 "same_points(steps) merged(steps)",
     "unfolding": "is_program(value) holds(question,points) unfolded(program,given) ran(program,given) flat(program)",
+    "drawtexts": "steps_text(steps) steps_of(text) program_text(program) program_of(text)",
+    "readings": "turned(number) mean(number) rest_square(number) product(number) is_reading(tower,value) "
+                "real_readings(tower) read_tower(tower,reading) reading_of(number,reading)",
+    "sentences": "fits(deed,points,point) tower_of(points) read_points(points,reading) equalities(points) "
+                 "first_untrue(steps,points) redrawn(steps,reading)",
+    "polynomials": "polynomial(number) least_polynomial(number) degree(number) worth(coefficients,number) maker(tower) "
+                   "written_in(number,maker)",
+    "rootcounts": "root_count(coefficients,low=None,high=None) place_of(number) card_of(number) trace(number) "
+                  "trace_form(number,shift=0) form_signs(form)",
+    "trees": "led(number,path) leaf(number,path) real_paths(count) low_paths(count) real_leaves(number) "
+             "low_leaves(number) is_real(number) real_paper(number) is_low(number) low_paper(number) "
+             "order_paper(one,other) span(number,d=1)",
+    "verdicts": "set_of_number(number) set_of_point(point) is_in(point,word) paper_of(point) is_paper(point,value) "
+                "sets_of(steps) first_beyond(steps,chest)",
+    "downsquares": "downsquares(n) least_with(count)",
+    "squarelists": "squares_of(number) is_squares(number,value) total(values) product_squares(values,others) "
+                   "quotient_squares(values,number)",
+    "reckonings": "is_reckoning(value) kind_of(rows) worked(rows) bad_rows(rows) needless_rows(rows) plain_rows(rows) "
+                  "reckoning_text(rows) reckoning_of(text) combined(rows,others,word) filled(rows,others,at) "
+                  "first_apart(rows,others)",
 }
 
 
@@ -31,6 +51,7 @@ class InterfaceTests(unittest.TestCase):
                 word = entry.split("(")[0]
                 value = getattr(module, word)
                 self.assertEqual(value.__module__, "rulerchest." + name)
+                self.assertTrue(inspect.isfunction(value) or inspect.isclass(value))
                 shown = str(inspect.signature(value)).replace(" ", "")
                 self.assertEqual(word + shown, entry)
 

@@ -9,7 +9,8 @@ import unittest
 PACKAGE = pathlib.Path(__file__).resolve().parent.parent / "rulerchest"
 
 INTERFACE_ORDER = ["errors", "towers", "numbers", "squareroots", "numbertexts", "plane", "tools", "chests", "drawings",
-                   "unfolding"]
+                   "unfolding", "drawtexts", "readings", "sentences", "polynomials", "rootcounts", "trees", "verdicts",
+                   "downsquares", "squarelists", "reckonings"]
 
 BUILTINS = set("""len range enumerate zip min max sum abs sorted reversed int str bool bytes list tuple dict set
 isinstance ord repr any all divmod""".split())
@@ -149,7 +150,7 @@ class LanguageTests(unittest.TestCase):
                 if isinstance(node, (ast.FunctionDef, ast.ClassDef)):
                     self.assertEqual(node.decorator_list, [])
                 if isinstance(node, ast.Pow):
-                    self.assertEqual(name, "digits", "a power")
+                    self.assertIn(name, ("digits", "wholesquares"), "a power")
                 if isinstance(node, ast.ExceptHandler):
                     names = node.type.elts if isinstance(node.type, ast.Tuple) else [node.type]
                     for caught in names:
