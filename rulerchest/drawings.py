@@ -1,9 +1,9 @@
 """Drawings: lists of steps, what they lay down, and what hangs on what."""
 
 from rulerchest.chests import check_drawing
-from rulerchest.errors import BadNames, BadOrder, BadPoints, BadSequel, BadTable, Clash, NoName, NotAhead, Unlaid
+from rulerchest.errors import BadNames, BadOrder, BadSequel, BadTable, Clash, NoName, NotAhead, Unlaid
 from rulerchest.judging import SHEET_NAMES, are_different_names, is_name_table
-from rulerchest.plane import are_points, sheet
+from rulerchest.plane import check_dict_of_points, sheet
 from rulerchest.tools import are_steps, deed_names, first_unknown, place_of_deed, tool_of, with_names
 
 
@@ -21,8 +21,7 @@ def is_sequel(value, names):
 
 def drawn_from(points, sequel):
     """The points and those that all steps lay down behind them."""
-    if not are_points(points):
-        raise BadPoints("no dict from names to points")
+    check_dict_of_points(points)
     if not are_steps(sequel, list(points)):
         raise BadSequel("no sequel of the names of points")
     answer = {name: points[name] for name in points}

@@ -1,7 +1,7 @@
 """Numbers over towers, and reckoning with them."""
 
 from rulerchest.basis import (
-    NEAR_BITS, bare_basis, brought, negative, padded, parts_of_value, settled_value, trimmed_value,
+    NEAR_BITS, brought, negative, padded, parts_of_value, settled_value, trimmed_value,
     value_difference, value_floor, value_inverse, value_of_parts, value_order, value_product, value_sign, value_sum,
 )
 from rulerchest.errors import BadNumber, BadParts, NoQuotient, NotNumber
@@ -109,17 +109,6 @@ def together(one, other):
         return one.tower, one.value, other.value
     basis, value = brought(one.tower.basis, other.tower.basis, other.value)
     return tower_on(basis), padded(one.value, len(basis.weights)), value
-
-
-def levelled(numbers):
-    """Equal Numbers over one tower, to which the towers of all are joined."""
-    basis = bare_basis()
-    values = []
-    for number in numbers:
-        basis, value = brought(basis, number.tower.basis, number.value)
-        values.append(value)
-    tower = tower_on(basis)
-    return [number_on(tower, padded(value, len(basis.weights))) for value in values]
 
 
 def plus(one, other):

@@ -31,15 +31,16 @@ def are_points(value):
     return all([is_name(name) and is_point(value[name]) for name in value])
 
 
+def check_dict_of_points(value):
+    """Raise BadPoints unless any value is a dict from names to points."""
+    if not are_points(value):
+        raise BadPoints("no dict from names to points")
+
+
 def sheet():
     """The five points that are always there."""
     zero, one, two = fraction(0), fraction(1), fraction(2)
     return {"o": (zero, zero), "u": (one, zero), "uu": (two, zero), "v": (zero, one), "vv": (zero, two)}
-
-
-def trimmed_point(place):
-    """The equal point whose coordinates have no rows that they do not use."""
-    return (trimmed(place[0]), trimmed(place[1]))
 
 
 def number_over(level, xs):
@@ -145,14 +146,14 @@ def is_turn(value):
 
 def moved(points, turn):
     """The points after the turn and the shift."""
-    if not are_points(points):
-        raise BadPoints("no dict from names to points")
+    check_dict_of_points(points)
     if not is_turn(turn):
         raise BadTurn("no turn")
     c, s, e, f = [fraction(n, d) for n, d in turn]
     answer = {}
     for name, (x, y) in points.items():
         right = plus(minus(times(c, x), times(s, y)), e)
-        answer[name] = trimmed_point((right, plus(plus(times(s, x), times(c, y)), f)))
+        above = plus(plus(times(s, x), times(c, y)), f)
+        answer[name] = (trimmed(right), trimmed(above))
     return answer
 

@@ -3,11 +3,11 @@
 from rulerchest.basis import settled_value
 from rulerchest.chests import check_drawing
 from rulerchest.drawings import drawn
-from rulerchest.errors import BadPoints, BadReading, NoName, NotPoint, NoWays
+from rulerchest.errors import BadReading, NoName, NoWays
 from rulerchest.halving import factors_of
 from rulerchest.levels import across, level_of, level_of_points, square_of, way_to
 from rulerchest.numbers import number_on
-from rulerchest.plane import are_points, is_point
+from rulerchest.plane import check_dict_of_points, check_points
 from rulerchest.readings import basis_as_read
 from rulerchest.tools import check_deed, deed_names, deed_way, first_unknown, place_of_deed
 from rulerchest.towers import tower_on
@@ -17,18 +17,11 @@ from rulerchest.vectors import times_each
 WORDS_WITHOUT_WAY_BACK = ("gauge", "dividers", "halver", "strip")
 
 
-def check_dict_of_points(points):
-    """Raise BadPoints unless any value is a dict from names to points."""
-    if not are_points(points):
-        raise BadPoints("no dict from names to points")
-
-
 def fits(deed, points, point):
     """Whether the sentence of the deed holds of the point."""
     check_deed(deed)
     check_dict_of_points(points)
-    if not is_point(point):
-        raise NotPoint("no point")
+    check_points((point,))
     unknown = first_unknown(deed_names(deed), points)
     if unknown is not None:
         raise NoName(unknown)

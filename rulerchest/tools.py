@@ -1,9 +1,9 @@
 """Deeds: the tools' words, names and ways, and what they lay down."""
 
-from rulerchest.errors import BadDeed, BadPoints, BadTable, CannotLay, NoName
+from rulerchest.errors import BadDeed, BadTable, CannotLay, NoName
 from rulerchest.judging import SHEET_NAMES, is_list, is_name, is_name_table, is_tuple_of, is_whole
 from rulerchest.layings import lay_down
-from rulerchest.plane import are_points
+from rulerchest.plane import check_dict_of_points
 
 NAME_COUNTS = {
     "meet": 4, "upright": 5, "gauge": 2, "dividers": 4, "halver": 5, "strip": 5,
@@ -111,8 +111,7 @@ def place_of_deed(deed, points):
 def laid(deed, points):
     """The point that the deed lays down, its names standing for the points."""
     check_deed(deed)
-    if not are_points(points):
-        raise BadPoints("no dict from names to points")
+    check_dict_of_points(points)
     unknown = first_unknown(deed_names(deed), points)
     if unknown is not None:
         raise NoName(unknown)

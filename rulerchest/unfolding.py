@@ -1,10 +1,10 @@
 """Programs: done for points that are given, and made flat."""
 
-from rulerchest.errors import BadGiven, BadPoints, BadProgram, BadQuestion, Fault, NoName, TooLong
+from rulerchest.errors import BadGiven, BadProgram, BadQuestion, Fault, NoName, TooLong
 from rulerchest.flattening import flat_routine
 from rulerchest.judging import SHEET_NAMES, is_list
 from rulerchest.numbers import compare
-from rulerchest.plane import are_points, is_point, sheet, side, square_length
+from rulerchest.plane import check_dict_of_points, is_point, sheet, side, square_length
 from rulerchest.programs import are_routines, is_question, question_names, question_with_names
 from rulerchest.tools import first_unknown, place_of_deed, with_names
 
@@ -26,8 +26,7 @@ def holds(question, points):
     """Whether the question holds, its names standing for the points."""
     if not is_question(question):
         raise BadQuestion("no question")
-    if not are_points(points):
-        raise BadPoints("no dict from names to points")
+    check_dict_of_points(points)
     unknown = first_unknown(question_names(question), points)
     if unknown is not None:
         raise NoName(unknown)

@@ -2,17 +2,10 @@
 
 from rulerchest.chests import WORDS, check_chest, check_drawing, check_word, word_of_tools
 from rulerchest.drawings import drawn
-from rulerchest.errors import NotPoint
 from rulerchest.judging import is_fraction, is_tuple_of, is_whole
 from rulerchest.numbers import check_number, fraction_of
-from rulerchest.plane import is_point
+from rulerchest.plane import check_points
 from rulerchest.trees import is_real, leaf, paths_for_real, real_leaves, real_paper
-
-
-def check_point(value):
-    """Raise NotPoint unless any value is a point."""
-    if not is_point(value):
-        raise NotPoint("no point")
 
 
 def set_of_number(number):
@@ -30,7 +23,7 @@ def is_behind(word, other):
 
 def set_of_point(point):
     """The word of the first set that has the point."""
-    check_point(point)
+    check_points((point,))
     first = set_of_number(point[0])
     if first == WORDS[-1]:
         return first
@@ -40,14 +33,14 @@ def set_of_point(point):
 
 def is_in(point, word):
     """Whether the set with this word has the point."""
-    check_point(point)
+    check_points((point,))
     check_word(word)
     return not is_behind(set_of_point(point), word)
 
 
 def paper_of(point):
     """A paper of the point: fractions, leaves, or a path to a fraction below zero."""
-    check_point(point)
+    check_points((point,))
     for axis, number in enumerate(point):
         path = real_paper(number)
         if path is not None:
@@ -60,7 +53,7 @@ def paper_of(point):
 
 def is_paper(point, value):
     """Whether any value is a paper of the point."""
-    check_point(point)
+    check_points((point,))
     if not isinstance(value, tuple) or len(value) == 0 or not isinstance(value[0], str):
         return False
     if value[0] == "all":

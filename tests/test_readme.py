@@ -10,7 +10,7 @@ README = pathlib.Path(__file__).resolve().parent.parent / "README.md"
 
 class ReadmeTests(unittest.TestCase):
     def test_examples(self):
-        code = re.search(r"```python\n(.*?)```", README.read_text(), re.DOTALL).group(1)
+        code = "\n".join(re.findall(r"```python\n(.*?)```", README.read_text(), re.DOTALL))
         names = {}
         shown = 0
         for text, wanted in re.findall(r"((?:(?!# ).*\n)+)(?:# (.*)\n)?", code):
@@ -22,7 +22,7 @@ class ReadmeTests(unittest.TestCase):
                 shown += 1
             else:
                 exec(compile(tree, "README", "exec"), names)
-        self.assertEqual(shown, 3)
+        self.assertEqual(shown, 7)
 
 
 if __name__ == "__main__":
