@@ -66,14 +66,19 @@ def maker(tower):
     check_tower(tower)
     xs = [0]
     for _ in tower.squares:
-        # Only few multiples of the next root go wrong, so that one of the first is found.
-        factor = 1
-        longer = xs + [factor] + [0] * (len(xs) - 1)
-        while not makes_all(longer, tower.basis.rows):
-            factor = factor + 1
-            longer = xs + [factor] + [0] * (len(xs) - 1)
-        xs = longer
+        xs = with_next_root(xs, tower.basis.rows)
     return number_on(tower, settled_value(xs, 1))
+
+
+def with_next_root(xs, rows):
+    """The vector of a maker and the least multiple of the next root with which the sum makes the longer tower."""
+    factor = 1
+    while True:
+        longer = xs + [factor] + [0] * (len(xs) - 1)
+        # Only few multiples go wrong, so that one of the first will do.
+        if makes_all(longer, rows):
+            return longer
+        factor = factor + 1
 
 
 def written_in(number, maker):

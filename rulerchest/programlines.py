@@ -159,7 +159,7 @@ class ProgramReader:
         """Read if QUESTION and begin with its first block."""
         level = self.levels[-1]
         question = tuple(words[1:])
-        if words[1:2] == ["can"] and len(words) > 2:
+        if words[1:2] == ["can"]:
             question = ("can", deed_of_words(words[2:]))
         if not is_question(question) or not are_set(question_names(question), level.known):
             return False

@@ -101,9 +101,19 @@ def form_signs(form):
     """How many squares have factors above zero, below zero and zero wherever the form is a sum of squares."""
     if not is_form(form):
         raise BadForm("no form")
-    # An item times a whole changes no sign, and makes all factors wholes.
+    return signs_of_form(whole_form(form))
+
+
+def whole_form(form):
+    """A form of wholes with the same signs."""
     scales = [scale_of(row) for row in form]
-    return signs_of_form([scaled_row(row, scale, scales) for row, scale in zip(form, scales)])
+    scale = 1
+    for one in scales:
+        scale = lcm(scale, one)
+    if scale.bit_length() <= 2 * max(scales).bit_length():
+        return [[n * (scale // d) for n, d in row] for row in form]
+    # With many unlike denominators it is shorter to make wholes of the items one by one: this changes no sign either.
+    return [scaled_row(row, one, scales) for row, one in zip(form, scales)]
 
 
 def scale_of(fractions):

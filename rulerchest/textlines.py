@@ -1,6 +1,6 @@
 """Texts as lines, and the words of deeds."""
 
-from rulerchest.tools import WORDS_WITH_WAYS, is_deed
+from rulerchest.tools import is_deed
 
 WAYS = {"1": 1, "2": 2}
 
@@ -23,6 +23,6 @@ def deed_text(deed):
 def deed_of_words(words):
     """The deed with these words, None if they are none."""
     deed = tuple(words)
-    if len(words) > 1 and words[0] in WORDS_WITH_WAYS and words[-1] in WAYS:
+    if len(words) > 0 and words[-1] in WAYS:
         deed = deed[:-1] + (WAYS[words[-1]],)
     return deed if is_deed(deed) else None

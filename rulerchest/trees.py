@@ -169,7 +169,8 @@ def span(number, d=1):
     xs, den = number.value
     poly = least_at(xs, number.tower.basis.rows)
     if len(poly) == 2:
-        return -(poly[0] * d // den) - (1 if poly[0] * d % den != 0 else 0), -(poly[0] * d // den)
+        share = -poly[0] * d
+        return share // den, -(-share // den)
     return span_of_roots(poly, den, d)
 
 

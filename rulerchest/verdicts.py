@@ -58,9 +58,8 @@ def is_paper(point, value):
         return False
     if value[0] == "all":
         return is_tuple_of(value, 4) and shows_all(point, value[1], value[2], value[3])
-    # There is one paper only of each of the other words, and only one of them.
-    wanted = paper_of(point)
-    return value[0] == wanted[0] and is_alike(value, wanted)
+    # Of a point without such a paper there is just one.
+    return is_alike(value, paper_of(point))
 
 
 def shows_all(point, axis, path, found):

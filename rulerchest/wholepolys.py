@@ -123,18 +123,12 @@ def square_of_poly(poly):
 
 def root_of_poly(poly):
     """The polynomial with the last whole 1 whose square poly is, None if there is none; the last whole of poly is 1."""
-    if len(poly) & 1 == 0:
-        return None
-    degree = len(poly) // 2
     found = [1]
     # found has the wholes from the last one on: each next one stands twice in the square.
-    for at in range(1, degree + 1):
+    for at in range(1, len(poly) // 2 + 1):
         known = 0
         for i in range(1, at):
             known = known + found[i] * found[at - i]
-        rest = poly[-1 - at] - known
-        if rest & 1 == 1:
-            return None
-        found.append(rest // 2)
+        found.append((poly[-1 - at] - known) // 2)
     answer = found[::-1]
     return answer if square_of_poly(answer) == poly else None

@@ -87,12 +87,14 @@ def with_sum(rows, i, j):
 
 def rows_without(rows, lead, last):
     """The form that is left when a square with item lead is taken away, times what keeps it one of wholes."""
-    first = rows[lead]
-    pivot = first[lead]
+    factors = rows[lead][:lead] + rows[lead][lead + 1:]
+    pivot = rows[lead][lead]
+    others = [row[:lead] + row[lead + 1:] for row in rows[:lead] + rows[lead + 1:]]
     answer = []
-    for i, row in enumerate(rows):
-        if i != lead:
-            factor = row[lead]
-            whole = [(pivot * x - factor * y) // last for x, y in zip(row, first)]
-            answer.append(whole[:lead] + whole[lead + 1:])
+    for at, row in enumerate(others):
+        # What stands ahead of the diagonal has been worked in the rows ahead.
+        ahead = [known[at] for known in answer]
+        factor = factors[at]
+        behind = [(pivot * x - factor * y) // last for x, y in zip(row[at:], factors[at:])]
+        answer.append(ahead + behind)
     return answer

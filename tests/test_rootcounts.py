@@ -247,10 +247,20 @@ class FormTests(unittest.TestCase):
                 form = tuple(tuple(pair(item) for item in row) for row in rows)
                 self.assertEqual(form_signs(form), (wanted.count(1), wanted.count(-1), wanted.count(0)))
 
-    def mixed(self, chance, signs):
+    def test_many_unlike_denominators(self):
+        chance = chance_with(434)
+        for size in (2, 4, 6):
+            for _ in range(5):
+                wanted = [chance.choice([1, -1]) for _ in range(size)]
+                rows = self.mixed(chance, wanted, 10 ** 14)
+                scales = [Fraction(1, chance.randint(10 ** 14, 10 ** 15)) for _ in range(size)]
+                form = tuple(tuple(pair(rows[i][j] * scales[i] * scales[j]) for j in range(size)) for i in range(size))
+                self.assertEqual(form_signs(form), (wanted.count(1), wanted.count(-1), 0))
+
+    def mixed(self, chance, signs, most=3):
         """A form with these squares after independent changes of its items."""
         size = len(signs)
-        rows = [[Fraction(sign * chance.randint(1, 4), chance.randint(1, 3)) if i == j else Fraction(0)
+        rows = [[Fraction(sign * chance.randint(1, 4), chance.randint(1, most)) if i == j else Fraction(0)
                  for j in range(size)] for i, sign in enumerate(signs)]
         for _ in range(3 * size if size > 1 else 0):
             i, j = chance.sample(range(size), 2)

@@ -104,6 +104,14 @@ class FitsTests(unittest.TestCase):
         self.both("disc", (self.O, self.D), [(H, H), (negated(H), negated(H))], [self.D, self.O, (H, negated(H)), self.U])
         self.both("disc", (self.U, self.U), [self.V, (H, H)], [self.O, self.D])
 
+    def test_squares_that_are_one_but_for_a_root(self):
+        # The square of 1/3 + 2/3 r1 is 1 + 4/9 r1.
+        near = plus(fraction(1, 3), times(fraction(2, 3), R))
+        for word, places in (("gauge", (self.O, self.U)), ("gauge", (self.O, self.O)), ("disc", (self.O, self.U)),
+                             ("dividers", (self.O, self.U, self.O, self.V)), ("compass", (self.O, self.U, self.O, self.U)),
+                             ("circles", (self.O, self.U, self.O, self.V))):
+            self.assertIs(holds(word, places, (near, fraction(0))), False, word)
+
     def test_disc_is_about_zero_whatever_o_is(self):
         points = {"o": self.D, "a": self.O, "b": self.U}
         self.assertIs(fits(("disc", "a", "b", 1), points, self.U), True)
@@ -341,6 +349,15 @@ class RedrawnTests(unittest.TestCase):
         self.assertEqual(a, (fraction(1, 2), over(root(fraction(3)), fraction(2))))
         self.assertEqual(redrawn(steps=EXAMPLE, reading=(-1,)), [("a", ("circles", "o", "u", "u", "o", 2))])
         self.assertEqual(redrawn(EXAMPLE, (1,)), EXAMPLE)
+
+    def test_points_at_the_first_name(self):
+        # Only of rims such a step has no way back.
+        steps = EXAMPLE + [("b", ("disc", "u", "o", 1)), ("c", ("corner", "o", "u", "a", "o", 2)), ("d", ("meet", "a", "u", "a", "v")),
+                           ("e", ("compass", "o", "a", "u", "v", 1)), ("f", ("circles", "u", "a", "o", "a", 2))]
+        points = drawn(steps)
+        self.assertEqual((points["b"], points["c"], points["d"]), (points["u"], points["o"], points["a"]))
+        found = drawn(redrawn(steps, (-1,)))
+        self.assertEqual(found, read_points(points, (-1,)))
 
     def test_ways_that_stay(self):
         # A way without a root is the same in each reading, and so is one whose point is on the touched line.
