@@ -4,11 +4,11 @@ A value over a basis is a pair (xs, den): a tuple of wholes and a whole above
 zero without a common factor, over the scaled roots of rulerchest.vectors.
 """
 
-from math import lcm
+from math import gcd, lcm
 
 from rulerchest.judging import are_fractions, lowest
 from rulerchest.vectors import (
-    added, bounds_within, enclosed, inverted, multiplied, reduced, square_root, stretched, taken, widened,
+    added, bounds_within, enclosed, inverted, multiplied, square_root, stretched, taken, widened,
 )
 
 NEAR_BITS = 128
@@ -18,7 +18,8 @@ MOST_ROWS = 6
 class Basis:
     """The rows of a tower, as parts and as vectors, with what every product of its scaled roots is scaled by.
 
-    near keeps bounds of the products, as most signs are told by them at once.
+    near keeps bounds of the products, as most signs are told by them at once; bare keeps a Tower without rows, once
+    one was needed.
     """
 
     def __init__(self, squares, rows, weights, near):
@@ -26,6 +27,7 @@ class Basis:
         self.rows = rows
         self.weights = weights
         self.near = near
+        self.bare = None
 
 
 def bare_basis():
@@ -35,12 +37,21 @@ def bare_basis():
 
 def settled_value(xs, den):
     """The value of a vector and a denominator above zero."""
-    wholes, whole = reduced(xs, den)
-    return tuple(wholes), whole
+    common = den
+    for x in xs:
+        if common == 1:
+            return tuple(xs), den
+        common = gcd(common, x)
+    if common == 1:
+        return tuple(xs), den
+    return tuple([x // common for x in xs]), den // common
 
 
 def value_of_parts(basis, parts):
     """The value with these parts over the first rows of the basis."""
+    if len(parts) == 1:
+        n, d = parts[0]
+        return (n,), d
     dens = [part[1] * weight for part, weight in zip(parts, basis.weights)]
     den = 1
     for part, under in zip(parts, dens):
@@ -52,12 +63,19 @@ def value_of_parts(basis, parts):
 def parts_of_value(basis, value):
     """The parts of a value over the basis."""
     xs, den = value
+    if len(xs) == 1:
+        return ((xs[0], den),)
     return tuple([lowest(x * weight, den) for x, weight in zip(xs, basis.weights)])
 
 
 def grown(basis, parts):
     """The basis with one more row, whose parts make a number above zero that is no square."""
-    xs, den = value_of_parts(basis, parts)
+    return grown_by(basis, parts, value_of_parts(basis, parts))
+
+
+def grown_by(basis, parts, value):
+    """The basis with one more row, which has these parts and this value."""
+    xs, den = value
     row = tuple(stretched(xs, den))
     weights = basis.weights + tuple(stretched(basis.weights, den))
     near = tuple(widened(basis.near, row, NEAR_BITS))
@@ -75,7 +93,7 @@ def basis_of(squares):
         value = value_of_parts(basis, parts)
         if value_sign(basis, value) < 1 or value_root(basis, value) is not None:
             return None
-        basis = grown(basis, parts)
+        basis = grown_by(basis, parts, value)
     return basis
 
 
@@ -147,14 +165,22 @@ def negative(value):
 
 def value_sum(value, other):
     """The sum of two values over one basis."""
-    den = lcm(value[1], other[1])
-    return settled_value(added(stretched(value[0], den // value[1]), stretched(other[0], den // other[1])), den)
+    xs, over = value
+    ys, under = other
+    if over == under:
+        return settled_value(added(xs, ys), over)
+    den = lcm(over, under)
+    return settled_value(added(stretched(xs, den // over), stretched(ys, den // under)), den)
 
 
 def value_difference(value, other):
     """The difference of two values over one basis."""
-    den = lcm(value[1], other[1])
-    return settled_value(taken(stretched(value[0], den // value[1]), stretched(other[0], den // other[1])), den)
+    xs, over = value
+    ys, under = other
+    if over == under:
+        return settled_value(taken(xs, ys), over)
+    den = lcm(over, under)
+    return settled_value(taken(stretched(xs, den // over), stretched(ys, den // under)), den)
 
 
 def value_product(basis, value, other):
@@ -201,7 +227,7 @@ def united_bases(basis, towards):
 def basis_with_root(basis, value, weight):
     """The basis with a row for the root of value, which is a root of towards times weight; this root."""
     unscaled = settled_value(value[0], value[1] * weight * weight)
-    united = grown(basis, parts_of_value(basis, unscaled))
+    united = grown_by(basis, parts_of_value(basis, unscaled), unscaled)
     size = len(value[0])
     xs = [0] * size + [weight] + [0] * (size - 1)
     return united, settled_value(xs, united.weights[size])
@@ -239,6 +265,8 @@ def places_within(xs):
 
 def trimmed_value(basis, value):
     """The basis with the used rows alone, and the value over it."""
+    if value[0][-1] != 0 or len(basis.rows) == 0:
+        return basis, value
     rows = used_rows(basis, value)
     if len(rows) == len(basis.rows):
         return basis, value

@@ -24,14 +24,22 @@ def is_list(value):
 
 def is_fraction(value):
     """Whether any value is a fraction in lowest terms."""
-    if not is_tuple_of(value, 2) or not is_whole(value[0]) or not is_whole(value[1]):
+    if not isinstance(value, tuple) or len(value) != 2:
         return False
-    return value[1] >= 1 and gcd(value[0], value[1]) == 1
+    n, d = value
+    if not isinstance(n, int) or not isinstance(d, int) or isinstance(n, bool) or isinstance(d, bool):
+        return False
+    return d >= 1 and gcd(n, d) == 1
 
 
 def are_fractions(value, size):
     """Whether any value is a tuple of so many fractions."""
-    return is_tuple_of(value, size) and all([is_fraction(part) for part in value])
+    if not isinstance(value, tuple) or len(value) != size:
+        return False
+    for part in value:
+        if not is_fraction(part):
+            return False
+    return True
 
 
 def lowest(n, d):

@@ -10,6 +10,7 @@ from rulerchest.levels import (
     square_of, stretch, summed, turned_left, vector_sign, way_to, with_root,
 )
 from rulerchest.vectors import multiplied, stretched, taken
+from rulerchest.wholemeets import whole_meet, whole_places
 
 
 def lay_meet(basis, den, places, _):
@@ -173,6 +174,10 @@ LAYINGS = {
 
 def lay_down(word, points, way):
     """The point that a deed of this word lays down, None if it cannot be laid."""
+    if word == "meet":
+        places = whole_places(points)
+        if places is not None:
+            return whole_meet(places)
     action = LAYINGS[word]
     level = level_of_points(points)
     return action(level.basis, level.den, level.places(), way)

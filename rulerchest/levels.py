@@ -9,8 +9,7 @@ from math import lcm
 from rulerchest.basis import (
     bare_basis, basis_with_root, brought, settled_value, trimmed_value, value_root, value_sign,
 )
-from rulerchest.numbers import number_on
-from rulerchest.towers import tower_on
+from rulerchest.numbers import point_on
 from rulerchest.vectors import added, inverted, multiplied, stretched, taken
 
 
@@ -33,9 +32,11 @@ def level_of(numbers):
     values = []
     den = 1
     for number in numbers:
-        own, value = trimmed_value(number.tower.basis, number.value)
+        value = number.value
         if len(value[0]) > 1:
-            basis, value = brought(basis, own, value)
+            own, value = trimmed_value(number.tower.basis, value)
+            if own.squares != basis.squares and len(value[0]) > 1:
+                basis, value = brought(basis, own, value)
         values.append(value)
         den = lcm(den, value[1])
     size = len(basis.weights)
@@ -107,18 +108,12 @@ def with_root(basis, xs, den):
     return basis, list(found[0]), found[1]
 
 
-def number_at(basis, xs, den):
-    """The trimmed Number of a vector and a denominator."""
-    own, value = trimmed_value(basis, settled_value(xs, den))
-    return number_on(tower_on(own), value)
-
-
 def point_along(basis, den, a, course, share, under):
     """The point a + course * share / under, whose coordinates are trimmed; den is that of a and of the course."""
     size = len(share)
     steps = stretch(basis.rows, course, share)
     first, second = [added(stretched(padded_vector(at, size), under), step) for at, step in zip(a, steps)]
-    return (number_at(basis, first, den * under), number_at(basis, second, den * under))
+    return point_on(basis, settled_value(first, den * under), settled_value(second, den * under))
 
 
 def point_by_share(basis, den, a, course, xs, ys, under):

@@ -4,33 +4,25 @@ from rulerchest.basis import (
     NEAR_BITS, brought, negative, padded, parts_of_value, settled_value, trimmed_value,
     value_difference, value_floor, value_inverse, value_of_parts, value_order, value_product, value_sign, value_sum,
 )
-from rulerchest.errors import BadNumber, BadParts, NoQuotient, NotNumber
+from rulerchest.errors import BadNumber, BadParts, NoQuotient, NotNumber, NotTower
 from rulerchest.judging import are_fractions, is_whole
 from rulerchest.towers import Tower, check_tower, tower_on
 
 
-class Known:
-    """The parts of a Number and its value, both known to be right: they are not judged again."""
-
-    def __init__(self, parts, value):
-        self.parts = parts
-        self.value = value
+ZERO_PARTS = ((0, 1),)
 
 
 class Number:
     """A number over a tower: the sum of its parts, each times a product of roots."""
 
     def __init__(self, tower, parts):
+        if not isinstance(tower, Tower):
+            raise NotTower("no tower")
+        if not are_fractions(parts, len(tower.basis.weights)):
+            raise BadParts("parts are no tuple of as many fractions as the tower has products of roots")
         self.tower = tower
-        if isinstance(parts, Known):
-            self.parts = parts.parts
-            self.value = parts.value
-        else:
-            check_tower(tower)
-            if not are_fractions(parts, len(tower.basis.weights)):
-                raise BadParts("parts are no tuple of as many fractions as the tower has products of roots")
-            self.parts = parts
-            self.value = value_of_parts(tower.basis, parts)
+        self.parts = parts
+        self.value = value_of_parts(tower.basis, parts)
 
     def __eq__(self, other):
         return isinstance(other, Number) and have_one_value(self, other)
@@ -43,19 +35,40 @@ def is_number(value):
 
 def check_number(value):
     """Raise NotNumber unless any value is a Number."""
-    if not is_number(value):
+    if not isinstance(value, Number):
         raise NotNumber("no Number")
 
 
 def check_numbers(one, other):
     """Raise NotNumber unless both are Numbers."""
-    check_number(one)
-    check_number(other)
+    if not isinstance(one, Number) or not isinstance(other, Number):
+        raise NotNumber("no Number")
 
 
 def number_on(tower, value):
-    """The Number with a value over the basis of the tower."""
-    return Number(tower, Known(parts_of_value(tower.basis, value), value))
+    """The Number with a value over the basis of the tower, known to be right.
+
+    A zero gets many parts, so that they are not judged again; one part is judged at once.
+    """
+    basis = tower.basis
+    parts = parts_of_value(basis, value)
+    if len(parts) == 1:
+        return Number(tower, parts)
+    if basis.bare is None:
+        basis.bare = Tower()
+    number = Number(basis.bare, ZERO_PARTS)
+    number.tower = tower
+    number.parts = parts
+    number.value = value
+    return number
+
+
+def point_on(basis, first, second):
+    """The point whose coordinates have these values over the basis, trimmed."""
+    own, x = trimmed_value(basis, first)
+    other, y = trimmed_value(basis, second)
+    tower = tower_on(own)
+    return (number_on(tower, x), number_on(tower if own.squares == other.squares else tower_on(other), y))
 
 
 def fraction(n, d=1):

@@ -1,6 +1,6 @@
 """Towers of square roots."""
 
-from rulerchest.basis import Basis, basis_of
+from rulerchest.basis import basis_of
 from rulerchest.errors import NotTower
 
 
@@ -8,8 +8,7 @@ class Tower:
     """At most six rows, each one the square of the root that it adds."""
 
     def __init__(self, squares=()):
-        # A basis comes from the package itself: its rows are known to be right and are not judged again.
-        basis = squares if isinstance(squares, Basis) else basis_of(squares)
+        basis = basis_of(squares)
         if basis is None:
             raise NotTower("squares are no tuple of rows of a tower")
         self.squares = basis.squares
@@ -26,10 +25,13 @@ def is_tower(value):
 
 def check_tower(value):
     """Raise NotTower unless any value is a Tower."""
-    if not is_tower(value):
+    if not isinstance(value, Tower):
         raise NotTower("no tower")
 
 
 def tower_on(basis):
-    """The Tower of a basis."""
-    return Tower(basis)
+    """The Tower of a basis, whose rows are known to be right: a bare Tower gets them without judging them again."""
+    tower = Tower()
+    tower.squares = basis.squares
+    tower.basis = basis
+    return tower
