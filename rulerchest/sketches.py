@@ -6,7 +6,7 @@ from (0, 0) through the mid meets y = 2 in the top, and so on.
 """
 
 from rulerchest.judging import SHEET_NAMES
-from rulerchest.numbers import fraction, negated, plus, trimmed
+from rulerchest.numbers import fraction, plus, trimmed
 
 BASE, MID, TOP, UP, LEFT = "base", "mid", "top", "up", "left"
 FAR = 9
@@ -55,6 +55,10 @@ class Sketch:
         known = self.forms.setdefault(key_of(number), {})
         if form not in known:
             known[form] = name
+
+    def alias(self, number, other):
+        """The number is equal to a known one, perhaps over another tower, and has the same forms."""
+        self.forms[key_of(number)] = self.forms[key_of(other)]
 
     def knows(self, number):
         """Whether the number has a form."""
@@ -222,9 +226,3 @@ def pole_between(sketch, form, other, number):
         ahead = need(sketch, whole_number(1), form)
         sketch.poles[key] = sketch.draw(("meet", ahead, need(sketch, number, other), "o", "v"))
     return sketch.poles[key]
-
-
-def opposite_known(sketch, number):
-    """The number with the other sign if it has a form, otherwise None."""
-    other = negated(number)
-    return other if sketch.knows(other) else None

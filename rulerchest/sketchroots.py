@@ -33,10 +33,10 @@ def put_diagonal(sketch, x, y, tool):
             by_dividers(sketch, found, x, y)
         elif tool == "rims":
             squares = add_numbers(sketch, multiply(sketch, x, x), multiply(sketch, y, y))
-            return put_root(sketch, squares, tool)
+            sketch.alias(found, put_root(sketch, squares, tool))
         else:
             x, y = with_divisor(x, y)
-            by_direction(sketch, found, x, without_sign(sketch, y), tool)
+            sketch.alias(found, by_direction(sketch, found, x, without_sign(sketch, y), tool))
     return found
 
 
@@ -63,11 +63,9 @@ def by_dividers(sketch, found, x, y):
 
 
 def by_direction(sketch, found, x, y, tool):
-    """The diagonal of x and y, y above zero, by a tool that finds it from the direction."""
+    """The diagonal of x and y, y above zero, by a tool that finds it from the direction; a known number equal to found."""
     if tool == "disc":
-        turn = by_disc(sketch, found, x, y)
-        from_turn(sketch, x, y, turn)
-        return
+        return from_turn(sketch, x, y, by_disc(sketch, found, x, y))
     ratio = divide(sketch, x, y, TOP)
     top = need(sketch, ratio, TOP)
     up = unit_up(sketch)
@@ -76,19 +74,18 @@ def by_direction(sketch, found, x, y, tool):
         line = line_of(sketch, TOP)
         longer = trimmed(plus(ratio, length))
         sketch.note(longer, TOP, ("halver", "v", top, up, line[0], line[1]))
-        take_number(sketch, multiply(sketch, longer, y), x)
-    elif tool == "gauge":
-        from_turn(sketch, x, y, by_gauge(sketch, ratio, length, top))
+        return take_number(sketch, multiply(sketch, longer, y), x)
+    if tool == "gauge":
+        return from_turn(sketch, x, y, by_gauge(sketch, ratio, length, top))
+    if tool == "strip":
+        deed = ("strip", "v", top, up, "v", up)
+    elif tool == "compass":
+        deed = ("compass", "v", top, "v", up, 2)
     else:
-        if tool == "strip":
-            deed = ("strip", "v", top, up, "v", up)
-        elif tool == "compass":
-            deed = ("compass", "v", top, "v", up, 2)
-        else:
-            opposite = take_number(sketch, whole_number(0), ratio, BASE)
-            deed = ("corner", need(sketch, opposite, BASE), top, "v", up, 2)
-        sketch.note(length, UP, deed)
-        multiply(sketch, length, y)
+        opposite = take_number(sketch, whole_number(0), ratio, BASE)
+        deed = ("corner", need(sketch, opposite, BASE), top, "v", up, 2)
+    sketch.note(length, UP, deed)
+    return multiply(sketch, length, y)
 
 
 def turn_of(ratio, length):
@@ -117,7 +114,7 @@ def by_disc(sketch, found, x, y):
 
 def from_turn(sketch, x, y, turn):
     """y k is y + x less y times 1 + t - k."""
-    add_numbers(sketch, take_number(sketch, y, multiply(sketch, turn, y)), x)
+    return add_numbers(sketch, take_number(sketch, y, multiply(sketch, turn, y)), x)
 
 
 def put_root(sketch, number, tool):
@@ -125,7 +122,7 @@ def put_root(sketch, number, tool):
     found = trimmed(root(number))
     if not sketch.knows(found):
         if tool == "rims":
-            root_by_rims(sketch, found, number)
+            sketch.alias(found, root_by_rims(sketch, found, number))
         else:
             sketch.note(found, LEFT, ROOT_DEEDS[tool](sketch, number))
     return found
@@ -161,7 +158,7 @@ def root_by_rims(sketch, found, number):
     part = trimmed(over(double, less if sign(less) > 0 else trimmed(times(less, whole_number(-1)))))
     sketch.note(part, UP, ("rims", "o", place, "v", unit_up(sketch), 1))
     product = multiply(sketch, part, less)
-    without_sign(sketch, divide(sketch, product, put_whole(sketch, 2)))
+    return without_sign(sketch, divide(sketch, product, put_whole(sketch, 2)))
 
 
 ROOT_DEEDS = {"corner": root_by_corner, "compass": root_by_compass, "disc": root_by_disc}
