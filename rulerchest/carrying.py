@@ -1,6 +1,6 @@
 """Drawings of points, and drawings carried into other chests."""
 
-from rulerchest.chests import check_chest, check_drawing, word_of_tools
+from rulerchest.chests import check_chest, word_of_tools
 from rulerchest.deedwork import draw_deed, is_done_with
 from rulerchest.drawings import drawn
 from rulerchest.errors import CannotCarry, OutOfReach, Unlaid
@@ -28,7 +28,7 @@ def drawing_of(point, chest):
         raise OutOfReach(word)
     sketch = Sketch([])
     put_point(sketch, point, chest)
-    return sketch.steps
+    return sketch.added
 
 
 def carried(steps, chest):

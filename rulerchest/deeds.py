@@ -76,7 +76,7 @@ def worked_steps(rows, chest):
 
 
 def point_of_deed(deed, points):
-    """The point that any value lays down; BadDeed, NoName, CannotLay if it is no deed that can be laid on the points."""
+    """The point that any value lays down; an error if it is no deed that can be laid on the points."""
     check_deed(deed)
     unknown = first_unknown(deed_names(deed), points)
     if unknown is not None:

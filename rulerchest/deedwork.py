@@ -1,11 +1,11 @@
 """Any deed done with the tools of a chest."""
 
-from rulerchest.chests import WORDS, word_of_tools
+from rulerchest.chests import word_of_tools
 from rulerchest.formulas import Worker, reckoned_place
 from rulerchest.numbers import fraction, fraction_of
 from rulerchest.plane import square_length
 from rulerchest.sketches import BASE, need, whole_number
-from rulerchest.sketchplaces import Placed, draw_again, draw_on_line, draw_place, draw_upright, same_place
+from rulerchest.sketchplaces import Placed, draw_on_line, draw_place, draw_upright, same_place
 from rulerchest.sketchrows import over_one_tower, plan_of, put_number, weight_of
 from rulerchest.sketchsums import take_number
 from rulerchest.tools import deed_names, deed_way, tool_of
@@ -37,7 +37,7 @@ def draw_deed(sketch, deed, points, point, chest):
         other = draw_upright(sketch, p, a, b)
         sketch.draw(("meet", p.name, other, c.name, d.name))
         return
-    straight = straight_deed(sketch, deed, named, point, chest)
+    straight = straight_deed(sketch, deed, named, chest)
     if straight is not None:
         sketch.draw(straight)
         return
@@ -76,10 +76,10 @@ def line_under(deed, named):
     if deed[0] == "circles":
         return None
     ends = named[:2] if deed[0] in ("gauge", "dividers") else named[-2:]
-    return None if ends[0].point[0] == ends[1].point[0] else ends
+    return None if ends[0].spot[0] == ends[1].spot[0] else ends
 
 
-def straight_deed(sketch, deed, named, point, chest):
+def straight_deed(sketch, deed, named, chest):
     """One deed of the chest that lays the same point down, None if none is seen at once."""
     names = deed_names(deed)
     if deed[0] == "gauge":
@@ -101,7 +101,7 @@ def ray_at_unit(p, a, chest):
         return ("gauge", p.name, a.name)
     if "dividers" in chest:
         return ("dividers", p.name, a.name, "o", "u")
-    if "disc" in chest and same_place(p.point, (fraction(0), fraction(0))):
+    if "disc" in chest and same_place(p.spot, (fraction(0), fraction(0))):
         return ("disc", p.name, a.name, 2)
     return None
 
@@ -109,13 +109,13 @@ def ray_at_unit(p, a, chest):
 def ray_at_length(named, chest):
     """One deed of the chest for the point of the ray from p through a at the length bc, or None."""
     p, a, b, c = named
-    if same_place(b.point, c.point):
+    if same_place(b.spot, c.spot):
         return None
     if "compass" in chest:
-        if same_place(p.point, b.point):
+        if same_place(p.spot, b.spot):
             return ("compass", p.name, c.name, p.name, a.name, 2)
-        if same_place(p.point, c.point):
+        if same_place(p.spot, c.spot):
             return ("compass", p.name, b.name, p.name, a.name, 2)
-    if fraction_of(square_length(b.point, c.point)) == (1, 1):
+    if fraction_of(square_length(b.spot, c.spot)) == (1, 1):
         return ray_at_unit(p, a, chest)
     return None

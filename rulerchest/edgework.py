@@ -11,7 +11,7 @@ def three_places(steps, p, a, b, name):
     points = drawn(steps)
     places = [placed_name(points, value) for value in (p, a, b)]
     check_new_name(points, name)
-    if same_place(places[1].point, places[2].point):
+    if same_place(places[1].spot, places[2].spot):
         raise EqualPoints("a line through equal points")
     return places, sketch_behind(points, name)
 

@@ -43,7 +43,7 @@ class Ground:
         level = level_of([marks[name][axis] for name, axis in pairs])
         self.basis = level.basis
         self.pairs = pairs
-        self.values = {pair: settled_value(xs, level.den) for pair, xs in zip(pairs, level.vectors)}
+        self.worths = {pair: settled_value(xs, level.den) for pair, xs in zip(pairs, level.vectors)}
 
     def one(self):
         """The value 1."""
@@ -53,7 +53,7 @@ class Ground:
         """The value of a product."""
         value = self.one()
         for pair in product:
-            value = value_product(self.basis, value, self.values[pair])
+            value = value_product(self.basis, value, self.worths[pair])
         return value
 
 
@@ -65,13 +65,13 @@ class Field:
         self.products = []
         self.dens = []
         self.span = Span()
-        self.values = {}
+        self.worths = {}
 
     def value_of_next(self, product):
         """The value of a product whose beginning is in the base."""
         if product == ():
             return self.ground.one()
-        return value_product(self.ground.basis, self.values[product[:-1]], self.ground.values[product[-1]])
+        return value_product(self.ground.basis, self.worths[product[:-1]], self.ground.worths[product[-1]])
 
     def look_at(self, product):
         """None if the next product joins the base, otherwise the fractions with which the base sums to its value."""
@@ -79,10 +79,10 @@ class Field:
         rest, factors, multiple = self.span.rest(value[0])
         if not any(rest):
             return self.fractions(value[1], factors, multiple)
-        self.span.join(rest, factors, multiple)
+        self.span.take_in(rest, factors, multiple)
         self.products.append(product)
         self.dens.append(value[1])
-        self.values[product] = value
+        self.worths[product] = value
         return None
 
     def fractions(self, den, factors, multiple):

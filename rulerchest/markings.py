@@ -63,7 +63,7 @@ def marking(marks, point):
     sketch = Sketch(list(marks))
     x, y = [put_sum_of(sketch, marks, pairs_of_sum(field, sum_in(field, number))) for number in point]
     draw_place(sketch, x, y)
-    return (sketch.steps, sketch.steps[-1][0])
+    return (sketch.added, sketch.added[-1][0])
 
 
 def put_sum_of(sketch, marks, pairs):

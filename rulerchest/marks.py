@@ -110,7 +110,7 @@ def weights_for(field, sight):
         wholes = [1 if at == place else 0 for at in range(len(xs))]
     else:
         rest, _, _ = field.span.rest(xs[:many])
-        wholes = field.span.weights(rest) + [0] * (len(xs) - many)
+        wholes = field.span.weigh(rest) + [0] * (len(xs) - many)
     # The wholes of a value belong to scaled roots, the parts of a Number do not.
     return tuple([lowest(whole, weight) for whole, weight in zip(wholes, sight.basis.weights)])
 
@@ -148,7 +148,7 @@ def shows_weights(field, number, weights):
     for _, d in weights:
         den = den * d
     wholes = [n * (den // d) * scale for (n, d), scale in zip(weights, sight.basis.weights)]
-    if any([weight_of(wholes, field.values[product][0]) != 0 for product in field.products]):
+    if any([weight_of(wholes, field.worths[product][0]) != 0 for product in field.products]):
         return False
     return weight_of(wholes, sight.value[0]) != 0
 

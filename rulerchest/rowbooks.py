@@ -3,7 +3,7 @@
 A value is one over the first rows of the basis, as many as it has vectors for.
 """
 
-from rulerchest.basis import settled_value, value_inverse, value_product, value_root, value_sign
+from rulerchest.basis import settled_value, value_product, value_root, value_sign
 from rulerchest.halving import first_rows, value_norm, value_rest
 from rulerchest.vectors import halves, stretched
 from rulerchest.wholesquares import squares_of_fraction
@@ -15,16 +15,16 @@ class RowBook:
     def __init__(self, basis):
         self.basis = basis
         self.rows = []
-        self.places = {}
+        self.indexes = {}
         self.numbers = {}
         self.roots = {}
 
     def put(self, row):
         """The index of the row."""
-        if row not in self.places:
-            self.places[row] = len(self.rows)
+        if row not in self.indexes:
+            self.indexes[row] = len(self.rows)
             self.rows.append(row)
-        return self.places[row]
+        return self.indexes[row]
 
 
 def first_basis(book, value):
@@ -90,7 +90,8 @@ def new_root(book, value):
     a, _ = halves(xs)
     double = settled_value(stretched(a, 2), den)
     shorter = first_basis(book, double)
-    # With the norm n of the value e: root(e) = hyp(root(2a) e / 2a, root(n / 2a)); 2an has shorter fractions than n / 2a.
+    # With the norm n of the value e: root(e) = hyp(root(2a) e / 2a, root(n / 2a)).
+    # The root of 2an is the second one times 2a, and has shorter fractions.
     mixed = value_product(shorter, value_norm(basis.rows, value), double)
     under = number_without_root(book, double)
     whole = number_without_root(book, value)

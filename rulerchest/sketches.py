@@ -8,7 +8,12 @@ from (0, 0) through the mid meets y = 2 in the top, and so on.
 from rulerchest.judging import SHEET_NAMES
 from rulerchest.numbers import fraction, plus, trimmed
 
-BASE, MID, TOP, UP, LEFT = "base", "mid", "top", "up", "left"
+BASE = "base"
+MID = "mid"
+TOP = "top"
+UP = "up"
+LEFT = "left"
+ALL_FORMS = ("base", "mid", "top", "up", "left")
 FAR = 9
 
 
@@ -19,7 +24,7 @@ class Sketch:
         self.taken = {name: True for name in SHEET_NAMES}
         for name in taken:
             self.taken[name] = True
-        self.steps = []
+        self.added = []
         self.many = 0
         self.forms = {}
         self.poles = {}
@@ -41,7 +46,7 @@ class Sketch:
     def draw(self, deed):
         """A step with a fresh name; this name."""
         name = self.fresh()
-        self.steps.append((name, deed))
+        self.added.append((name, deed))
         return name
 
     def note(self, number, form, deed):
@@ -64,7 +69,7 @@ class Sketch:
         """Whether the number has a form."""
         return key_of(number) in self.forms
 
-    def known(self, number):
+    def held(self, number):
         """The forms of a number that it has."""
         return self.forms[key_of(number)]
 
@@ -81,7 +86,7 @@ def whole_number(n):
 
 def unit_up(sketch):
     """The name of the point (1, 1)."""
-    known = sketch.known(whole_number(1))
+    known = sketch.held(whole_number(1))
     if UP not in known:
         first = sketch.draw(("meet", "vv", "u", "uu", "v"))
         known[UP] = sketch.draw(("meet", "o", first, "vv", "uu"))
@@ -103,7 +108,7 @@ def line_of(sketch, form):
 def unit_top(sketch):
     """The name of the point (1, 2)."""
     one = whole_number(1)
-    known = sketch.known(one)
+    known = sketch.held(one)
     if TOP not in known:
         mid = need(sketch, one, MID)
         known[TOP] = sketch.draw(("meet", "o", mid, "u", unit_up(sketch)))
@@ -118,7 +123,7 @@ def meet_line(sketch, number, form, a, b):
 
 def cost(sketch, number, form):
     """How many meets a form of a known number needs, about."""
-    known = sketch.known(number)
+    known = sketch.held(number)
     if form in known:
         return 0
     if form == UP:
@@ -136,7 +141,7 @@ def cost(sketch, number, form):
 
 def need(sketch, number, form):
     """The name of a form of a known number, drawn if it is not there."""
-    known = sketch.known(number)
+    known = sketch.held(number)
     if form in known:
         return known[form]
     if form == TOP:

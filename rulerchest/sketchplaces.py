@@ -5,7 +5,7 @@ A sketch has no points of its own: names are passed with the points that they ha
 
 from rulerchest.numbers import fraction, minus, sign, trimmed
 from rulerchest.plane import cross, meet_of, sheet
-from rulerchest.sketches import BASE, LEFT, TOP, UP, line_of, meet_line, need, unit_top, whole_number
+from rulerchest.sketches import ALL_FORMS, BASE, LEFT, TOP, UP, line_of, meet_line, need, unit_top, whole_number
 from rulerchest.sketchsums import divide, put_whole, take_number
 
 PAIRS = (("o", "u"), ("o", "v"), ("u", "v"), ("uu", "vv"), ("u", "vv"), ("uu", "v"))
@@ -18,7 +18,7 @@ class Placed:
 
     def __init__(self, name, point):
         self.name = name
-        self.point = point
+        self.spot = point
 
 
 def on_sheet(name):
@@ -27,14 +27,14 @@ def on_sheet(name):
 
 
 def finish(sketch, name):
-    """The steps, the last one with this name in the place of the fresh one that it has; the sketch goes on behind them."""
-    last, deed = sketch.steps[-1]
-    steps = sketch.steps[:-1] + [(name, deed)]
+    """The steps, the last one with this name in the place of its fresh one; the sketch goes on behind them."""
+    last, deed = sketch.added[-1]
+    steps = sketch.added[:-1] + [(name, deed)]
     for forms in list(sketch.forms.values()):
-        for form in list(forms):
-            if forms[form] == last:
+        for form in ALL_FORMS:
+            if form in forms and forms[form] == last:
                 forms[form] = name
-    sketch.steps = []
+    sketch.added = []
     return steps
 
 
@@ -42,7 +42,7 @@ def draw_again(sketch, place):
     """A step at the same point."""
     points = sheet()
     for first, second in PAIRS:
-        if sign(cross(place.point, points[first], points[second])) != 0:
+        if sign(cross(place.spot, points[first], points[second])) != 0:
             return sketch.draw(("meet", place.name, first, place.name, second))
     return None
 
@@ -53,23 +53,23 @@ def same_place(one, other):
 
 
 def third_on_line(sketch, a, p):
-    """Two names whose line meets the line ap in a point that is neither a nor p nor their middle, None if none was found."""
+    """Two names whose line meets the line ap in a point that is neither a nor p nor their middle, or None."""
     points = sheet()
     for first, second in PAIRS:
-        if is_third(meet_of(a.point, p.point, points[first], points[second]), a, p):
+        if is_third(meet_of(a.spot, p.spot, points[first], points[second]), a, p):
             return first, second
     top = (fraction(1), fraction(2))
     for first in ("v", "o", "uu"):
-        if is_third(meet_of(a.point, p.point, points[first], top), a, p):
+        if is_third(meet_of(a.spot, p.spot, points[first], top), a, p):
             return first, unit_top(sketch)
     return None
 
 
 def is_third(found, a, p):
     """Whether a point is found, and neither a nor p nor their middle."""
-    if found is None or same_place(found, a.point) or same_place(found, p.point):
+    if found is None or same_place(found, a.spot) or same_place(found, p.spot):
         return False
-    return not is_middle(found, a.point, p.point)
+    return not is_middle(found, a.spot, p.spot)
 
 
 def is_middle(point, a, b):
@@ -95,9 +95,9 @@ def draw_parallel(sketch, p, ends, middle):
 
 def draw_along(sketch, p, ends, middle):
     """The name of a point unlike p on the parallel through p to the line of the ends, or on this line if it has p."""
-    if sign(cross(ends[0].point, ends[1].point, p.point)) != 0:
+    if sign(cross(ends[0].spot, ends[1].spot, p.spot)) != 0:
         return draw_parallel(sketch, p, ends, middle)
-    return draw_again(sketch, ends[1] if same_place(ends[0].point, p.point) else ends[0])
+    return draw_again(sketch, ends[1] if same_place(ends[0].spot, p.spot) else ends[0])
 
 
 def sheet_ends(names):
@@ -112,14 +112,14 @@ def draw_level(sketch, p, names):
 
 
 def triple_on(sketch, a, b):
-    """The ends and the middle on the line ab: where it meets y = 0, y = 2 and y = 1; or those of a line of the sheet."""
-    if a.point[1] == b.point[1]:
+    """Ends and middle on the line ab: where it meets y = 0, y = 2 and y = 1; or those of a parallel of the sheet."""
+    if a.spot[1] == b.spot[1]:
         return sheet_ends(FLAT)
-    if a.point[0] == b.point[0]:
+    if a.spot[0] == b.spot[0]:
         return sheet_ends(STEEP)
     points = sheet()
-    below = meet_of(a.point, b.point, points["o"], points["u"])
-    above = meet_of(a.point, b.point, points["vv"], (fraction(1), fraction(2)))
+    below = meet_of(a.spot, b.spot, points["o"], points["u"])
+    above = meet_of(a.spot, b.spot, points["vv"], (fraction(1), fraction(2)))
     ends = []
     for form, point in ((BASE, below), (TOP, above)):
         name = meet_line(sketch, point[0], form, a.name, b.name)
@@ -131,13 +131,13 @@ def triple_on(sketch, a, b):
 
 def draw_upright(sketch, p, a, b):
     """The name of a point unlike p on the line through p at right angles to ab."""
-    if a.point[1] == b.point[1]:
+    if a.spot[1] == b.spot[1]:
         return draw_level(sketch, p, STEEP)
-    if a.point[0] == b.point[0]:
+    if a.spot[0] == b.spot[0]:
         return draw_level(sketch, p, FLAT)
     ends, _ = triple_on(sketch, a, b)
     # The line has the direction (w, 2), so that (g, -1) with g = 2 / w is at right angles to it.
-    width = take_number(sketch, ends[1].point[0], ends[0].point[0], TOP)
+    width = take_number(sketch, ends[1].spot[0], ends[0].spot[0], TOP)
     share = divide(sketch, put_whole(sketch, 2), width, BASE)
     low = Placed(need(sketch, share, BASE), (share, fraction(0)))
     opposite = take_number(sketch, whole_number(0), share, TOP)
@@ -147,7 +147,7 @@ def draw_upright(sketch, p, a, b):
 
 def learn_first(sketch, p):
     """The first coordinate of p, known in the sketch."""
-    x, y = trimmed(p.point[0]), p.point[1]
+    x, y = trimmed(p.spot[0]), p.spot[1]
     if not sketch.knows(x):
         if sign(y) == 0:
             sketch.learn(x, BASE, p.name)
@@ -159,7 +159,7 @@ def learn_first(sketch, p):
 
 def learn_second(sketch, p):
     """The second coordinate of p, known in the sketch."""
-    x, y = p.point[0], trimmed(p.point[1])
+    x, y = p.spot[0], trimmed(p.spot[1])
     if not sketch.knows(y):
         if sign(x) == 0:
             sketch.learn(y, LEFT, p.name)
@@ -172,7 +172,7 @@ def learn_second(sketch, p):
 def draw_base(sketch, number):
     """The last step draws the base of a known number."""
     name = need(sketch, number, BASE)
-    if len(sketch.steps) == 0 or sketch.steps[-1][0] != name:
+    if len(sketch.added) == 0 or sketch.added[-1][0] != name:
         sketch.draw(("meet", "v", name, "o", "u"))
 
 

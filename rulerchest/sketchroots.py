@@ -63,7 +63,7 @@ def by_dividers(sketch, found, x, y):
 
 
 def by_direction(sketch, found, x, y, tool):
-    """The diagonal of x and y, y above zero, by a tool that finds it from the direction; a known number equal to found."""
+    """The diagonal of x and y, y above zero, by a tool that finds it from the direction; it equals found."""
     if tool == "disc":
         return from_turn(sketch, x, y, by_disc(sketch, found, x, y))
     ratio = divide(sketch, x, y, TOP)
@@ -124,7 +124,8 @@ def put_root(sketch, number, tool):
         if tool == "rims":
             sketch.alias(found, root_by_rims(sketch, found, number))
         else:
-            sketch.note(found, LEFT, ROOT_DEEDS[tool](sketch, number))
+            action = ROOT_DEEDS[tool]
+            sketch.note(found, LEFT, action(sketch, number))
     return found
 
 
@@ -150,7 +151,7 @@ def root_by_disc(sketch, number):
 
 
 def root_by_rims(sketch, found, number):
-    """An edge through (0, 0) and one through (p, 0), p = (x + 1) / (x - 1): the first one meets y = 1 at 2 r / (x - 1)."""
+    """Edges through (0, 0) and (p, 0), p = (x + 1) / (x - 1): the first one meets y = 1 at 2 r / (x - 1)."""
     more = add_numbers(sketch, number, whole_number(1))
     less = take_number(sketch, number, whole_number(1))
     place = need(sketch, divide(sketch, more, less, BASE), BASE)

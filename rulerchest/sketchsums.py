@@ -3,7 +3,7 @@
 from rulerchest.judging import lowest
 from rulerchest.numbers import fraction, fraction_of, minus, over, plus, sign, times, trimmed
 from rulerchest.sketches import (
-    BASE, FAR, MID, TOP, UP, cost, key_of, line_of, meet_line, need, pole_between, unit_top, whole_number,
+    BASE, MID, TOP, UP, cost, key_of, meet_line, need, pole_between, unit_top, whole_number,
 )
 
 LEVELS = {BASE: 0, MID: 1, UP: 1, TOP: 2}
@@ -154,16 +154,25 @@ def put_whole(sketch, n):
     if n < FEW:
         half = n // 2
         return add_numbers(sketch, put_whole(sketch, half), put_whole(sketch, n - half))
-    ahead = put_whole(sketch, n // 4)
+    digits = []
+    while n >= FEW:
+        digits.append(n & 3)
+        n = n // 4
+    found = put_whole(sketch, n)
+    for digit in digits[::-1]:
+        n = 4 * n + digit
+        found = by_four(sketch, found, whole_number(n), digit)
+    return found
+
+
+def by_four(sketch, ahead, found, digit):
+    """Four times the number ahead and a digit, which is found: one meet through a centre of the digit."""
+    if sketch.knows(found):
+        return found
     if cost(sketch, ahead, BASE) <= cost(sketch, ahead, TOP):
-        return by_four(sketch, found, ahead, n & 3, (BASE, "o", "u", TOP))
-    unit_top(sketch)
-    return by_four(sketch, found, ahead, n & 3, (TOP, "vv", unit_top(sketch), BASE))
-
-
-def by_four(sketch, found, ahead, digit, way):
-    """Four times the number ahead and a digit: one meet from a form to another one through a centre of the digit."""
-    start, zero, one, end = way
+        start, zero, one, end = BASE, "o", "u", TOP
+    else:
+        start, zero, one, end = TOP, "vv", unit_top(sketch), BASE
     key = (start, end, digit)
     if key not in sketch.poles:
         first = need(sketch, put_whole(sketch, digit), end)

@@ -38,7 +38,7 @@ class Span:
                 multiple = multiple * lead
         return rest, factors, multiple
 
-    def join(self, rest, factors, multiple):
+    def take_in(self, rest, factors, multiple):
         """The vector with this rest, which is not zero, becomes a member."""
         factors = [-factor for factor in factors] + [multiple]
         common = 0
@@ -47,7 +47,7 @@ class Span:
         rest = [whole // common for whole in rest]
         self.rows.append(Row(rest, [factor // common for factor in factors], first_place(rest)))
 
-    def weights(self, rest):
+    def weigh(self, rest):
         """Wholes with which all members weigh nothing, but a vector with this rest, which is not zero, something."""
         weights = [0] * len(rest)
         weights[first_place(rest)] = 1

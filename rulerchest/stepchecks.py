@@ -29,7 +29,7 @@ def sketch_behind(points, name):
 
 def number_of_place(sketch, place):
     """The number for which a name stands, known in the sketch then; OffLine if it stands for none."""
-    x, y = place.point
+    x, y = place.spot
     if sign(y) != 0:
         raise OffLine(place.name)
     number = trimmed(x)

@@ -80,7 +80,7 @@ class Run:
         self.points = sheet()
         for name, place in zip(params, given):
             self.points[name] = place
-        self.steps = []
+        self.drawing = []
         self.answers = []
         self.used = 0
         self.ends = ()
@@ -133,14 +133,14 @@ class Run:
 
     def do_draw(self, level, name, deed):
         """Add a step, which name stands for."""
-        if len(self.steps) == MOST_DRAWS:
+        if len(self.drawing) == MOST_DRAWS:
             raise TooLong("a 201st draw")
         place = place_of_deed(deed, self.points)
         if place is None:
             raise Fault(self.way_here())
         step = self.next_name()
         self.points[step] = place
-        self.steps.append((step, deed))
+        self.drawing.append((step, deed))
         level.names[name] = step
 
     def next_name(self):
@@ -199,7 +199,7 @@ def run_of(program, given):
 def unfolded(program, given):
     """The steps that the last routine draws, the answers to its questions, and what its results stand for."""
     run = run_of(program, given)
-    return run.steps, run.answers, run.ends
+    return run.drawing, run.answers, run.ends
 
 
 def ran(program, given):

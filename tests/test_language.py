@@ -10,10 +10,11 @@ PACKAGE = pathlib.Path(__file__).resolve().parent.parent / "rulerchest"
 
 INTERFACE_ORDER = ["errors", "towers", "numbers", "squareroots", "numbertexts", "plane", "tools", "chests", "drawings",
                    "unfolding", "drawtexts", "readings", "sentences", "polynomials", "rootcounts", "trees", "verdicts",
-                   "downsquares", "squarelists", "reckonings"]
+                   "downsquares", "squarelists", "reckonings", "makings", "edgework", "edgesums", "deeds", "carrying",
+                   "marks", "markings", "works", "journals", "desk"]
 
 BUILTINS = set("""len range enumerate zip min max sum abs sorted reversed int str bool bytes list tuple dict set
-isinstance ord repr any all divmod""".split())
+isinstance ord repr any all divmod property""".split())
 
 ERROR_BUILTINS = {"ValueError", "TypeError"}
 
@@ -35,7 +36,9 @@ BANNED_WORDS = re.compile(r"\b(type|typing|typing_extensions|enum|Enum|IntEnum|S
 
 STATEMENTS = (ast.Assign, ast.AugAssign, ast.If, ast.While, ast.For, ast.Return, ast.Break, ast.Continue, ast.Pass,
               ast.Raise, ast.Assert, ast.Delete, ast.Match, ast.Try, ast.Expr, ast.FunctionDef, ast.ClassDef,
-              ast.ImportFrom)
+              ast.ImportFrom, ast.With)
+
+OWN_UNDERSCORES = ("__init__", "__eq__", "__len__", "__enter__", "__exit__", "_")
 
 AT_ONCE = ("zip", "enumerate", "reversed", "range")
 VIEWS = ("items", "keys", "values")
@@ -147,8 +150,11 @@ class LanguageTests(unittest.TestCase):
                     self.assertIsInstance(node, STATEMENTS, ast.dump(node)[:80])
                 self.assertNotIsInstance(node, (ast.GeneratorExp, ast.Lambda, ast.Yield, ast.YieldFrom, ast.Await,
                                                 ast.Div, ast.MatMult, ast.NamedExpr, ast.Starred, ast.Set, ast.SetComp))
-                if isinstance(node, (ast.FunctionDef, ast.ClassDef)):
+                if isinstance(node, ast.ClassDef):
                     self.assertEqual(node.decorator_list, [])
+                if isinstance(node, ast.FunctionDef) and node.decorator_list:
+                    self.assertEqual([ast.unparse(item) for item in node.decorator_list], ["property"])
+                    self.assertEqual([item.arg for item in node.args.args], ["self"])
                 if isinstance(node, ast.Pow):
                     self.assertIn(name, ("digits", "wholesquares"), "a power")
                 if isinstance(node, ast.ExceptHandler):
@@ -181,7 +187,7 @@ class LanguageTests(unittest.TestCase):
             self.assertEqual(len(top), len(set(top)), "bound twice")
             parents = parents_of(tree)
             for bound, node in bound_names(tree):
-                self.assertTrue(bound in ("__init__", "__eq__", "_") or re.fullmatch(r"[A-Za-z][A-Za-z0-9_]*", bound), bound)
+                self.assertTrue(bound in OWN_UNDERSCORES or re.fullmatch(r"[A-Za-z][A-Za-z0-9_]*", bound), bound)
                 is_method = isinstance(node, ast.FunctionDef) and isinstance(parents[node], ast.ClassDef)
                 if not is_method:
                     self.assertNotIn(bound, taken)
@@ -226,17 +232,20 @@ class LanguageTests(unittest.TestCase):
                     self.assertTrue(inside, ast.unparse(parent))
 
     def test_attributes(self):
-        stored, read = set(), set()
+        stored, read, properties = set(), set(), set()
         for name, path, tree in self.each():
             parents = parents_of(tree)
             for node in ast.walk(tree):
+                if isinstance(node, ast.FunctionDef) and node.decorator_list:
+                    properties.add(node.name)
                 if isinstance(node, ast.Attribute):
                     if isinstance(node.ctx, ast.Store):
                         self.assertIsInstance(node.value, ast.Name, ast.unparse(node))
                         stored.add(node.attr)
                     elif not (isinstance(parents[node], ast.Call) and parents[node].func is node):
                         read.add(node.attr)
-        self.assertFalse(read - stored, "attributes that no class assigns")
+        self.assertFalse(read - stored - properties, "attributes that no class assigns")
+        self.assertFalse(stored & properties, "properties that are assigned")
         self.assertFalse(stored & set("""items keys values pop update append clear extend insert remove reverse setdefault
             sort args encode decode hex fromhex format numerator denominator real imag""".split()))
 
@@ -252,6 +261,80 @@ class LanguageTests(unittest.TestCase):
                         self.assertNotIn(ast.unparse(node.func.value), over)
                     if isinstance(node, ast.Subscript) and isinstance(node.ctx, (ast.Store, ast.Del)):
                         self.assertNotIn(ast.unparse(node.value), over)
+
+    def test_no_two_files_import_from_each_other(self):
+        edges = {name: {node.module.split(".")[1] for node in tree.body
+                        if isinstance(node, ast.ImportFrom) and node.module.startswith("rulerchest.")}
+                 for name, path, tree in self.each()}
+        for name in edges:
+            reached, todo = set(), [name]
+            while todo:
+                for other in edges[todo.pop()] - reached:
+                    reached.add(other)
+                    todo.append(other)
+            self.assertNotIn(name, reached)
+
+    def test_calls_pass_what_functions_take(self):
+        takes = {}
+        for name, path, tree in self.each():
+            for node in tree.body:
+                if isinstance(node, ast.FunctionDef):
+                    takes[name, node.name] = (len(node.args.args) - len(node.args.defaults), len(node.args.args))
+                if isinstance(node, ast.ClassDef):
+                    for made in node.body:
+                        if isinstance(made, ast.FunctionDef) and made.name == "__init__":
+                            many = len(made.args.args) - 1
+                            takes[name, node.name] = (many - len(made.args.defaults), many)
+        for name, path, tree in self.each():
+            home = {alias.name: node.module.split(".")[-1] for node in tree.body if isinstance(node, ast.ImportFrom)
+                    for alias in node.names}
+            for node in ast.walk(tree):
+                if isinstance(node, ast.Call):
+                    self.assertIsInstance(node.func, (ast.Name, ast.Attribute), ast.unparse(node))
+                    called = getattr(node.func, "id", None)
+                    wanted = takes.get((home.get(called, name), called))
+                    if wanted:
+                        self.assertTrue(wanted[0] <= len(node.args) <= wanted[1], ast.unparse(node))
+
+    def test_no_name_is_a_method_and_an_attribute(self):
+        methods, attributes = set(), set()
+        for name, path, tree in self.each():
+            for node in ast.walk(tree):
+                if isinstance(node, ast.ClassDef):
+                    methods |= {made.name for made in node.body if isinstance(made, ast.FunctionDef)}
+                if isinstance(node, ast.Attribute) and isinstance(node.ctx, ast.Store):
+                    attributes.add(node.attr)
+        # The interface wants both: OutOfReach has an attribute word, Work a method.
+        self.assertEqual(methods & attributes, {"word"})
+        self.assertFalse((methods - {"copy"}) & (set(dir(str)) | set(dir(list)) | set(dir(dict)) | set(dir(set)))
+                         - {"__init__", "__eq__", "__len__"})
+        self.assertFalse(attributes & (set(dir(str)) | set(dir(list)) | set(dir(dict)) | set(dir(set)) | set(dir(int))))
+
+    def test_what_runs_in_an_equality_or_a_property_changes_nothing(self):
+        functions = {}
+        for name, path, tree in self.each():
+            home = {alias.name: node.module.split(".")[-1] for node in tree.body if isinstance(node, ast.ImportFrom)
+                    for alias in node.names}
+            for node in ast.walk(tree):
+                if isinstance(node, ast.FunctionDef):
+                    functions.setdefault((name, node.name), []).append((node, home))
+        todo = [(name, called) for name, called in functions if called in ("__eq__", "__len__", "chest", "steps", "log")]
+        seen = set()
+        while todo:
+            name, called = todo.pop()
+            if (name, called) in seen:
+                continue
+            seen.add((name, called))
+            for function, home in functions[name, called]:
+                for node in ast.walk(function):
+                    if isinstance(node, (ast.Attribute, ast.Subscript)):
+                        self.assertIsInstance(node.ctx, ast.Load, (name, called, ast.unparse(node)))
+                    if isinstance(node, ast.Call):
+                        if isinstance(node.func, ast.Attribute):
+                            self.assertNotIn(node.func.attr, ("append", "extend", "pop", "setdefault", "update"))
+                        elif (home.get(node.func.id, name), node.func.id) in functions:
+                            todo.append((home.get(node.func.id, name), node.func.id))
+        self.assertIn(("basis", "brought"), seen)
 
 
 if __name__ == "__main__":
