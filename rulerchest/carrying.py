@@ -2,12 +2,12 @@
 
 from rulerchest.chests import check_chest, word_of_tools
 from rulerchest.deedwork import draw_deed, is_done_with
-from rulerchest.drawings import drawn
+from rulerchest.drawings import chest_of, drawn
 from rulerchest.errors import CannotCarry, OutOfReach, Unlaid
 from rulerchest.plane import check_points
 from rulerchest.sketches import Sketch
 from rulerchest.sketchplaces import finish
-from rulerchest.sketchrows import put_point
+from rulerchest.sketchrows import has_roots, put_point
 from rulerchest.tools import is_drawing
 from rulerchest.verdicts import is_behind, set_of_point
 
@@ -26,7 +26,7 @@ def drawing_of(point, chest):
     word = set_of_point(point)
     if is_behind(word, word_of_tools(chest)):
         raise OutOfReach(word)
-    sketch = Sketch([])
+    sketch = Sketch([], has_roots(chest))
     put_point(sketch, point, chest)
     return sketch.added
 
@@ -38,7 +38,8 @@ def carried(steps, chest):
     beyond = first_outside_of(steps, points, chest)
     if beyond is not None:
         raise CannotCarry(beyond)
-    sketch = Sketch([name for name, _ in steps])
+    # Without roots that steps had not either, the drawing can be carried back.
+    sketch = Sketch([name for name, _ in steps], has_roots(chest) and has_roots(chest_of(steps)))
     answer = []
     for name, deed in steps:
         if is_done_with(deed, chest):

@@ -9,7 +9,7 @@ from rulerchest.reckonings import worked
 from rulerchest.sketches import Sketch
 from rulerchest.sketchplaces import draw_base, finish
 from rulerchest.sketchroots import HYP_TOOLS, ROOT_TOOLS, put_diagonal, put_root
-from rulerchest.sketchrows import draw_row
+from rulerchest.sketchrows import draw_row, has_roots
 from rulerchest.stepchecks import check_new_name, number_of_place, placed_name, sketch_behind
 from rulerchest.tools import check_deed, deed_names, first_unknown, place_of_deed
 from rulerchest.verdicts import is_behind, set_of_point
@@ -99,6 +99,6 @@ def deed_steps(steps, deed, chest, name):
         word = set_of_point(point)
         if is_behind(word, word_of_tools(chest)):
             raise OutOfReach(word)
-    sketch = sketch_behind(points, name)
+    sketch = sketch_behind(points, name, has_roots(chest))
     draw_deed(sketch, deed, points, point, chest)
     return finish(sketch, name)

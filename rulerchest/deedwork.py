@@ -60,7 +60,7 @@ def draw_by_plan(sketch, deed, named, point, chest, bounded):
     line = line_under(deed, named)
     if line is not None:
         numbers = numbers[:1]
-    plans = [plan_of(sketch, number, chest) for number in numbers]
+    plans = [plan_of(sketch, number) for number in numbers]
     if bounded and sum([weight_of(plan) for plan in plans]) > HEAVY:
         draw_by_formula(sketch, deed, named, chest)
         return

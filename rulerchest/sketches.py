@@ -18,12 +18,16 @@ FAR = 9
 
 
 class Sketch:
-    """Steps, the names that are taken, the forms of numbers, and the poles between lines."""
+    """Steps, the names that are taken, the forms of numbers, and the poles between lines.
 
-    def __init__(self, taken):
+    rooted tells whether numbers may be drawn by any roots, or only by such as are real in every reading.
+    """
+
+    def __init__(self, taken, rooted=False):
         self.taken = {name: True for name in SHEET_NAMES}
         for name in taken:
             self.taken[name] = True
+        self.rooted = rooted
         self.added = []
         self.many = 0
         self.forms = {}

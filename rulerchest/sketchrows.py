@@ -35,9 +35,9 @@ def draw_row(sketch, row, numbers, chest):
             return put_diagonal(sketch, one, other, best_of(HYP_TOOLS, chest))
 
 
-def rows_for(number, chest):
-    """A reckoning of a number of the chest's set, with words that its tools can do."""
-    return rows_anyhow(number) if word_of_tools(chest) == WORDS[-1] else rows_made(number)
+def has_roots(chest):
+    """Whether the tools of the chest find all roots."""
+    return word_of_tools(chest) == WORDS[-1]
 
 
 def weight_of(rows):
@@ -53,12 +53,14 @@ def weight_of(rows):
     return weight
 
 
-def plan_of(sketch, number, chest):
-    """The rows that are left to be drawn for a trimmed number of the chest's set."""
+def plan_of(sketch, number):
+    """The rows that are left to be drawn for a trimmed number."""
     if sketch.knows(number):
         return []
     found = fraction_of(number)
-    return rows_for(number, chest) if found is None else [("fraction",) + found]
+    if found is not None:
+        return [("fraction",) + found]
+    return rows_anyhow(number) if sketch.rooted else rows_made(number)
 
 
 def put_number(sketch, number, rows, chest):
@@ -79,5 +81,5 @@ def over_one_tower(point):
 
 def put_point(sketch, point, chest):
     """The last step draws a point of the chest's set with its tools."""
-    x, y = [put_number(sketch, number, plan_of(sketch, number, chest), chest) for number in over_one_tower(point)]
+    x, y = [put_number(sketch, number, plan_of(sketch, number), chest) for number in over_one_tower(point)]
     draw_place(sketch, x, y)

@@ -22,9 +22,9 @@ def check_new_name(points, name):
         raise Taken(name)
 
 
-def sketch_behind(points, name):
+def sketch_behind(points, name, rooted=False):
     """A sketch of steps behind those of the points, the last of which is to be called name."""
-    return Sketch(list(points) + [name])
+    return Sketch(list(points) + [name], rooted)
 
 
 def number_of_place(sketch, place):
