@@ -6,7 +6,7 @@ zero without a common factor, over the scaled roots of rulerchest.vectors.
 
 from math import gcd, lcm
 
-from rulerchest.judging import are_fractions, lowest
+from rulerchest.judging import are_fractions
 from rulerchest.vectors import (
     added, bounds_within, enclosed, inverted, multiplied, square_root, stretched, taken, widened,
 )
@@ -65,7 +65,18 @@ def parts_of_value(basis, value):
     xs, den = value
     if len(xs) == 1:
         return ((xs[0], den),)
-    return tuple([lowest(x * weight, den) for x, weight in zip(xs, basis.weights)])
+    if len(xs) == 2:
+        # Most Numbers with roots have one, and are made very often.
+        a, b = xs
+        b = b * basis.weights[1]
+        first, second = gcd(a, den), gcd(b, den)
+        return ((a // first, den // first), (b // second, den // second))
+    parts = []
+    for x, weight in zip(xs, basis.weights):
+        n = x * weight
+        common = gcd(n, den)
+        parts.append((n // common, den // common))
+    return tuple(parts)
 
 
 def grown(basis, parts):
@@ -163,24 +174,26 @@ def negative(value):
     return tuple(stretched(value[0], -1)), value[1]
 
 
-def value_sum(value, other):
-    """The sum of two values over one basis."""
+def with_one_den(value, other):
+    """The vectors of two values over one basis, and a denominator for both."""
     xs, over = value
     ys, under = other
     if over == under:
-        return settled_value(added(xs, ys), over)
+        return xs, ys, over
     den = lcm(over, under)
-    return settled_value(added(stretched(xs, den // over), stretched(ys, den // under)), den)
+    return stretched(xs, den // over), stretched(ys, den // under), den
+
+
+def value_sum(value, other):
+    """The sum of two values over one basis."""
+    xs, ys, den = with_one_den(value, other)
+    return settled_value(added(xs, ys), den)
 
 
 def value_difference(value, other):
     """The difference of two values over one basis."""
-    xs, over = value
-    ys, under = other
-    if over == under:
-        return settled_value(taken(xs, ys), over)
-    den = lcm(over, under)
-    return settled_value(taken(stretched(xs, den // over), stretched(ys, den // under)), den)
+    xs, ys, den = with_one_den(value, other)
+    return settled_value(taken(xs, ys), den)
 
 
 def value_product(basis, value, other):

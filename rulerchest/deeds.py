@@ -3,7 +3,7 @@
 from rulerchest.chests import WORDS, check_chest, word_of_tools
 from rulerchest.deedwork import draw_deed, is_bounded, is_done_with
 from rulerchest.drawings import drawn
-from rulerchest.errors import BadTool, CannotLay, NoName, NoRoot, NoTool, OutOfReach
+from rulerchest.errors import BadTool, NoRoot, NoTool, OutOfReach
 from rulerchest.numbers import sign
 from rulerchest.reckonings import worked
 from rulerchest.sketches import Sketch
@@ -11,7 +11,7 @@ from rulerchest.sketchplaces import draw_base, finish
 from rulerchest.sketchroots import HYP_TOOLS, ROOT_TOOLS, put_diagonal, put_root
 from rulerchest.sketchrows import draw_row, has_roots
 from rulerchest.stepchecks import check_new_name, number_of_place, placed_name, sketch_behind
-from rulerchest.tools import check_deed, deed_names, first_unknown, place_of_deed
+from rulerchest.tools import check_deed, check_known_names, place_laid
 from rulerchest.verdicts import is_behind, set_of_point
 
 
@@ -75,22 +75,12 @@ def worked_steps(rows, chest):
     return steps
 
 
-def point_of_deed(deed, points):
-    """The point that any value lays down; an error if it is no deed that can be laid on the points."""
-    check_deed(deed)
-    unknown = first_unknown(deed_names(deed), points)
-    if unknown is not None:
-        raise NoName(unknown)
-    point = place_of_deed(deed, points)
-    if point is None:
-        raise CannotLay("a deed that cannot be laid")
-    return point
-
-
 def deed_steps(steps, deed, chest, name):
     """More steps with tools of the chest: the point that the deed lays down."""
     points = drawn(steps)
-    point = point_of_deed(deed, points)
+    check_deed(deed)
+    check_known_names(deed, points)
+    point = place_laid(deed, points)
     check_chest(chest)
     check_new_name(points, name)
     if is_done_with(deed, chest):

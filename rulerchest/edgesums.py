@@ -5,7 +5,7 @@ from rulerchest.errors import BadNumber, NoQuotient
 from rulerchest.judging import is_whole
 from rulerchest.numbers import sign
 from rulerchest.sketches import BASE
-from rulerchest.sketchplaces import draw_base, draw_place, finish, learn_first, learn_second
+from rulerchest.sketchplaces import draw_base, draw_place, finish, learn_coordinate
 from rulerchest.sketchsums import add_numbers, divide, multiply, put_fraction, take_number
 from rulerchest.stepchecks import check_new_name, number_of_place, placed_name, sketch_behind
 
@@ -62,13 +62,13 @@ def one_place(steps, p, name):
 def x_steps(steps, p, name):
     """More steps: the first coordinate of p."""
     sketch, place = one_place(steps, p, name)
-    return ended_at(sketch, learn_first(sketch, place), name)
+    return ended_at(sketch, learn_coordinate(sketch, place, 0), name)
 
 
 def y_steps(steps, p, name):
     """More steps: the second coordinate of p."""
     sketch, place = one_place(steps, p, name)
-    return ended_at(sketch, learn_second(sketch, place), name)
+    return ended_at(sketch, learn_coordinate(sketch, place, 1), name)
 
 
 def place_steps(steps, a, b, name):

@@ -5,7 +5,7 @@ A place is a pair of numbers that are known in the sketch; so is a course (a dir
 
 from rulerchest.numbers import sign
 from rulerchest.sketches import whole_number
-from rulerchest.sketchplaces import learn_first, learn_second
+from rulerchest.sketchplaces import learn_coordinate
 from rulerchest.sketchroots import HYP_TOOLS, ROOT_TOOLS, best_of, put_diagonal, put_root
 from rulerchest.sketchsums import add_numbers, divide, multiply, put_whole, take_number
 
@@ -21,7 +21,7 @@ class Worker:
 
 def place_in(sketch, p):
     """The coordinates of a point that is drawn."""
-    return (learn_first(sketch, p), learn_second(sketch, p))
+    return (learn_coordinate(sketch, p, 0), learn_coordinate(sketch, p, 1))
 
 
 def course_to(sketch, a, b):

@@ -1,23 +1,12 @@
 """Reckonings that make Numbers: without roots where a Number is real in every reading, with few otherwise."""
 
-from rulerchest.basis import negative, trimmed_value
+from rulerchest.basis import trimmed_value
 from rulerchest.errors import BelowZero
-from rulerchest.numbers import check_number, sign
+from rulerchest.numbers import check_number, negated, sign
 from rulerchest.reckonings import check_rows, moved_up, plain_rows, with_indexes, worked
-from rulerchest.rowbooks import RowBook, number_with_roots, number_without_root, root_without_root
+from rulerchest.rowbooks import RowBook, number_row, root_without_root
 from rulerchest.squarelists import check_values
 from rulerchest.trees import check_real, is_low, is_real, low_paper
-
-
-def opened(number):
-    """A book for the trimmed number, and its value there."""
-    basis, value = trimmed_value(number.tower.basis, number.value)
-    return RowBook(basis), value
-
-
-def ended(rows, place):
-    """The rows up to the one at a place, which is to be the last one."""
-    return rows[:place + 1]
 
 
 def made(number):
@@ -29,8 +18,19 @@ def made(number):
 
 def rows_made(number):
     """The rows of made, for a number that is real in every reading."""
-    book, value = opened(number)
-    return ended(book.rows, number_without_root(book, value))
+    return rows_of_value(trimmed_value(number.tower.basis, number.value), False)
+
+
+def rows_of_value(opened, rooted):
+    """The rows for a basis and a value over it; rooted tells whether there may be rows with the word root."""
+    basis, value = opened
+    book = RowBook(basis, rooted)
+    return ended(book.rows, number_row(book, value))
+
+
+def ended(rows, place):
+    """The rows up to the one at a place, which is to be the last one."""
+    return rows[:place + 1]
 
 
 def made_root(number):
@@ -43,7 +43,8 @@ def made_root(number):
 
 def rows_of_root(number):
     """The rows of made_root, for a number that is never below zero."""
-    book, value = opened(number)
+    basis, value = trimmed_value(number.tower.basis, number.value)
+    book = RowBook(basis, False)
     return ended(book.rows, root_without_root(book, value))
 
 
@@ -55,14 +56,7 @@ def made_anyhow(number):
 
 def rows_anyhow(number):
     """The rows of made_anyhow."""
-    book, value = opened(number)
-    return ended(book.rows, number_with_roots(book, value))
-
-
-def length_made(number):
-    """A reckoning of the number without its sign, which is real in every reading."""
-    book, value = opened(number)
-    return ended(book.rows, number_without_root(book, value if sign(number) > 0 else negative(value)))
+    return rows_of_value(trimmed_value(number.tower.basis, number.value), True)
 
 
 def diagonal(values):
@@ -73,7 +67,7 @@ def diagonal(values):
     rows = []
     for item in values:
         if sign(item) != 0:
-            others = length_made(item)
+            others = rows_made(item if sign(item) > 0 else negated(item))
             if len(rows) == 0:
                 rows = others
             else:

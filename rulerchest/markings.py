@@ -7,7 +7,7 @@ from rulerchest.judging import is_tuple_of
 from rulerchest.marks import check_marks, pairs_of_sum, sum_in
 from rulerchest.plane import check_points, sheet
 from rulerchest.sketches import Sketch, whole_number
-from rulerchest.sketchplaces import Placed, draw_place, learn_first, learn_second, same_place
+from rulerchest.sketchplaces import Placed, draw_place, learn_coordinate, same_place
 from rulerchest.sketchsums import add_numbers, divide, multiply, put_fraction, put_whole, take_number
 from rulerchest.tools import are_steps
 
@@ -89,9 +89,7 @@ def put_product(sketch, marks, product):
     """The value of a product of marks, known in the sketch."""
     value = whole_number(1)
     for name, axis in product:
-        place = Placed(name, marks[name])
-        coordinate = learn_second(sketch, place) if axis == 1 else learn_first(sketch, place)
-        value = multiply(sketch, value, coordinate)
+        value = multiply(sketch, value, learn_coordinate(sketch, Placed(name, marks[name]), axis))
     return value
 
 

@@ -10,10 +10,14 @@ from rulerchest.wholesquares import squares_of_fraction
 
 
 class RowBook:
-    """Rows, and where rows, values and roots of values stand in them; a row is not written twice."""
+    """Rows, and where rows, values and roots of values stand in them; a row is not written twice.
 
-    def __init__(self, basis):
+    rooted tells whether rows with the word root may be written.
+    """
+
+    def __init__(self, basis, rooted):
         self.basis = basis
+        self.rooted = rooted
         self.rows = []
         self.indexes = {}
         self.numbers = {}
@@ -54,20 +58,43 @@ def put_sum(book, first, word, second):
     return book.put((word, first, second))
 
 
-def number_without_root(book, value):
-    """The index of a row with a value that is real in every reading, made without the word root."""
+def number_row(book, value):
+    """The index of a row with a value; without the word root in a book without it, if it is real in every reading."""
     value = shortest(value)
     if value not in book.numbers:
         xs, den = value
         if len(xs) == 1:
             return fraction_row(book, xs[0], den)
         a, b = halves(xs)
-        first = number_without_root(book, settled_value(a, den)) if any(a) else None
-        # The number is a + b r: b r is the root of b b r r, or this root with the other sign.
-        last = root_without_root(book, value_rest(book.basis.rows, value))
-        above = value_sign(first_basis(book, (b, den)), (b, den)) > 0
-        book.numbers[value] = put_sum(book, first, "plus" if above else "minus", last)
+        first = number_row(book, settled_value(a, den)) if any(a) else None
+        # The number is a + b r.
+        word, last = rooted_part(book, b, den) if book.rooted else part_without_root(book, value)
+        book.numbers[value] = put_sum(book, first, word, last)
     return book.numbers[value]
+
+
+def part_without_root(book, value):
+    """A word and the index of a row behind it: b r of a + b r is the root of b b r r, or this with the other sign."""
+    xs, den = value
+    b = halves(xs)[1]
+    above = value_sign(first_basis(book, (b, den)), (b, den)) > 0
+    return "plus" if above else "minus", root_without_root(book, value_rest(book.basis.rows, value))
+
+
+def rooted_part(book, b, den):
+    """A word and the index of a row behind it: b r / den, the root r having a row with the word root."""
+    at = len(b).bit_length() - 1
+    last = book.put(("root", number_row(book, (book.basis.rows[at], 1))))
+    if is_one(b, den):
+        return "plus", last
+    if is_one(b, -den):
+        return "minus", last
+    return "plus", book.put(("times", number_row(book, settled_value(b, den)), last))
+
+
+def is_one(xs, den):
+    """Whether the vector is the whole den."""
+    return xs[0] == den and not any(xs[1:])
 
 
 def root_without_root(book, value):
@@ -86,15 +113,15 @@ def new_root(book, value):
     basis = first_basis(book, value)
     found = value_root(basis, value)
     if found is not None:
-        return number_without_root(book, found)
+        return number_row(book, found)
     a, _ = halves(xs)
     double = settled_value(stretched(a, 2), den)
     shorter = first_basis(book, double)
     # With the norm n of the value e: root(e) = hyp(root(2a) e / 2a, root(n / 2a)).
     # The root of 2an is the second one times 2a, and has shorter fractions.
     mixed = value_product(shorter, value_norm(basis.rows, value), double)
-    under = number_without_root(book, double)
-    whole = number_without_root(book, value)
+    under = number_row(book, double)
+    whole = number_row(book, value)
     first = book.put(("times", root_without_root(book, double), book.put(("over", whole, under))))
     last = book.put(("over", root_without_root(book, mixed), under))
     return book.put(("hyp", first, last))
@@ -109,32 +136,3 @@ def root_of_fraction(book, n, d):
         following = fraction_row(book, part[0], whole)
         place = following if place is None else book.put(("hyp", place, following))
     return fraction_row(book, 0, 1) if place is None else place
-
-
-def number_with_roots(book, value):
-    """The index of a row with any value, each root of the basis that it needs being made by one row with root."""
-    value = shortest(value)
-    if value not in book.numbers:
-        xs, den = value
-        if len(xs) == 1:
-            return fraction_row(book, xs[0], den)
-        a, b = halves(xs)
-        first = number_with_roots(book, settled_value(a, den)) if any(a) else None
-        last = last_root(book, len(a).bit_length() - 1)
-        if not is_one(b, den):
-            if is_one(b, -den):
-                book.numbers[value] = put_sum(book, first, "minus", last)
-                return book.numbers[value]
-            last = book.put(("times", number_with_roots(book, settled_value(b, den)), last))
-        book.numbers[value] = put_sum(book, first, "plus", last)
-    return book.numbers[value]
-
-
-def is_one(xs, den):
-    """Whether the vector is the whole den."""
-    return xs[0] == den and not any(xs[1:])
-
-
-def last_root(book, at):
-    """The index of a row with the root of the row of the basis at an index, scaled as in the basis."""
-    return book.put(("root", number_with_roots(book, (book.basis.rows[at], 1))))

@@ -9,7 +9,7 @@ from rulerchest.levels import across, level_of, level_of_points, square_of, way_
 from rulerchest.numbers import number_on
 from rulerchest.plane import check_dict_of_points, check_points
 from rulerchest.readings import basis_as_read
-from rulerchest.tools import check_deed, deed_names, deed_way, first_unknown, place_of_deed
+from rulerchest.tools import check_deed, check_known_names, deed_names, deed_way, first_unknown, place_of_deed
 from rulerchest.towers import tower_on
 from rulerchest.truths import is_true
 from rulerchest.vectors import times_each
@@ -22,9 +22,7 @@ def fits(deed, points, point):
     check_deed(deed)
     check_dict_of_points(points)
     check_points((point,))
-    unknown = first_unknown(deed_names(deed), points)
-    if unknown is not None:
-        raise NoName(unknown)
+    check_known_names(deed, points)
     return holds_of(deed, points, point)
 
 

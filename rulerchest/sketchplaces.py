@@ -11,6 +11,10 @@ from rulerchest.sketchsums import divide, put_whole, take_number
 PAIRS = (("o", "u"), ("o", "v"), ("u", "v"), ("uu", "vv"), ("u", "vv"), ("uu", "v"))
 FLAT = ("o", "u", "uu")
 STEEP = ("o", "v", "vv")
+# For each axis the form in which a point of the line o u or o v has its coordinate, and the line along which other
+# points get there.
+AXIS_FORMS = ("base", "left")
+AXIS_TRIPLES = (("o", "v", "vv"), ("o", "u", "uu"))
 
 
 class Placed:
@@ -145,28 +149,17 @@ def draw_upright(sketch, p, a, b):
     return draw_along(sketch, p, (low, high), "v")
 
 
-def learn_first(sketch, p):
-    """The first coordinate of p, known in the sketch."""
-    x, y = trimmed(p.spot[0]), p.spot[1]
-    if not sketch.knows(x):
-        if sign(y) == 0:
-            sketch.learn(x, BASE, p.name)
+def learn_coordinate(sketch, p, axis):
+    """The first (axis 0) or the second coordinate of p (axis 1), known in the sketch."""
+    number = trimmed(p.spot[axis])
+    if not sketch.knows(number):
+        form = AXIS_FORMS[axis]
+        if sign(p.spot[1 - axis]) == 0:
+            sketch.learn(number, form, p.name)
         else:
-            other = draw_level(sketch, p, STEEP)
-            meet_line(sketch, x, BASE, p.name, other)
-    return x
-
-
-def learn_second(sketch, p):
-    """The second coordinate of p, known in the sketch."""
-    x, y = p.spot[0], trimmed(p.spot[1])
-    if not sketch.knows(y):
-        if sign(x) == 0:
-            sketch.learn(y, LEFT, p.name)
-        else:
-            other = draw_level(sketch, p, FLAT)
-            meet_line(sketch, y, LEFT, p.name, other)
-    return y
+            other = draw_level(sketch, p, AXIS_TRIPLES[axis])
+            meet_line(sketch, number, form, p.name, other)
+    return number
 
 
 def draw_base(sketch, number):

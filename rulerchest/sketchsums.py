@@ -6,14 +6,14 @@ from rulerchest.sketches import (
     BASE, MID, TOP, UP, cost, key_of, meet_line, need, pole_between, unit_top, whole_number,
 )
 
-LEVELS = {BASE: 0, MID: 1, UP: 1, TOP: 2}
-FORMS = (BASE, MID, UP, TOP)
+LEVELS = {"base": 0, "mid": 1, "up": 1, "top": 2}
+FORMS = ("base", "mid", "up", "top")
 # Twice the first coordinate that each form of 1 has.
-DOUBLES = {BASE: 2, MID: 1, UP: 2, TOP: 2}
+DOUBLES = {"base": 2, "mid": 1, "up": 2, "top": 2}
 # About how many meets lead from the first form to the second one.
 FURTHER = {
-    (BASE, MID): 1, (BASE, TOP): 2, (BASE, UP): 3, (MID, BASE): 1, (MID, TOP): 1, (MID, UP): 3,
-    (TOP, BASE): 2, (TOP, MID): 1, (TOP, UP): 3, (UP, BASE): 5, (UP, MID): 4, (UP, TOP): 3,
+    ("base", "mid"): 1, ("base", "top"): 2, ("base", "up"): 3, ("mid", "base"): 1, ("mid", "top"): 1, ("mid", "up"): 3,
+    ("top", "base"): 2, ("top", "mid"): 1, ("top", "up"): 3, ("up", "base"): 5, ("up", "mid"): 4, ("up", "top"): 3,
 }
 FEW = 8
 

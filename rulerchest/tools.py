@@ -108,14 +108,24 @@ def place_of_deed(deed, points):
     return lay_down(deed[0], [points[name] for name in deed_names(deed)], deed_way(deed))
 
 
-def laid(deed, points):
-    """The point that the deed lays down, its names standing for the points."""
-    check_deed(deed)
-    check_dict_of_points(points)
+def check_known_names(deed, points):
+    """Raise NoName with the first name of a deed that is no key of points."""
     unknown = first_unknown(deed_names(deed), points)
     if unknown is not None:
         raise NoName(unknown)
+
+
+def place_laid(deed, points):
+    """The point that a deed lays down on points that have all its names; CannotLay if it cannot be laid."""
     place = place_of_deed(deed, points)
     if place is None:
         raise CannotLay("a deed that cannot be laid")
     return place
+
+
+def laid(deed, points):
+    """The point that the deed lays down, its names standing for the points."""
+    check_deed(deed)
+    check_dict_of_points(points)
+    check_known_names(deed, points)
+    return place_laid(deed, points)

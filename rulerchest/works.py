@@ -4,11 +4,11 @@ from rulerchest.carrying import carried
 from rulerchest.chests import check_chest
 from rulerchest.deedwork import is_done_with
 from rulerchest.drawings import drawn, grouped
-from rulerchest.errors import CannotLay, Needed, NoName, NotInChest, NothingDone, NotWork
+from rulerchest.errors import Needed, NoName, NotInChest, NothingDone, NotWork
 from rulerchest.judging import SHEET_NAMES
 from rulerchest.plane import sheet
 from rulerchest.stepchecks import check_new_name
-from rulerchest.tools import check_deed, deed_names, first_unknown, place_of_deed, tool_of, with_names
+from rulerchest.tools import check_deed, check_known_names, deed_names, place_laid, tool_of, with_names
 from rulerchest.verdicts import set_of_point
 
 POOREST = {"fractions": (), "middle": ("dividers",), "all": ("compass",)}
@@ -80,15 +80,10 @@ class Work:
         points = stand.places_by_name
         check_new_name(points, name)
         check_deed(deed)
-        unknown = first_unknown(deed_names(deed), points)
-        if unknown is not None:
-            raise NoName(unknown)
+        check_known_names(deed, points)
         check_tools([(name, deed)], stand.tools)
-        point = place_of_deed(deed, points)
-        if point is None:
-            raise CannotLay("a deed that cannot be laid")
         longer = dict(points)
-        longer[name] = point
+        longer[name] = place_laid(deed, points)
         self.stand = following(stand, ("draw", name, deed), stand.tools, stand.drawing + [(name, deed)], longer)
 
     def rub(self, name):

@@ -40,7 +40,26 @@ INTERFACE = {
     "reckonings": "is_reckoning(value) kind_of(rows) worked(rows) bad_rows(rows) needless_rows(rows) plain_rows(rows) "
                   "reckoning_text(rows) reckoning_of(text) combined(rows,others,word) filled(rows,others,at) "
                   "first_apart(rows,others)",
+    "makings": "made(number) made_root(number) made_anyhow(number) diagonal(values) cleared(rows)",
+    "edgework": "parallel_steps(steps,p,a,b,name) upright_steps(steps,p,a,b,name) again_steps(steps,p,name)",
+    "edgesums": "sum_steps(steps,a,b,name) difference_steps(steps,a,b,name) product_steps(steps,a,b,name) "
+                "quotient_steps(steps,a,b,name) x_steps(steps,p,name) y_steps(steps,p,name) place_steps(steps,a,b,name) "
+                "fraction_steps(steps,n,d,name)",
+    "deeds": "hyp_steps(steps,a,b,tool,name) root_steps(steps,a,tool,name) worked_steps(rows,chest) "
+             "deed_steps(steps,deed,chest,name)",
+    "carrying": "reaches(point,chest) drawing_of(point,chest) carried(steps,chest) is_carried(steps,chest,value)",
+    "marks": "coordinates(marks) value_of(marks,product) base(marks) size(marks) in_field(marks,number) "
+             "as_sum(marks,number) field_paper(marks,number) is_field_paper(marks,number,value) "
+             "first_outside(marks,others) needless(marks) enough(marks) first_parting(marks,others)",
+    "markings": "started(marks) first_strange(marks,sequel) marking(marks,point) is_marking(marks,point,value)",
+    "works": "Work(chest)",
+    "journals": "journal_of(work) first_wrong(chest,journal) replayed(chest,journal) shortened(chest,journal) "
+                "crossed(chest,journal,at)",
+    "desk": "Desk()",
 }
+
+WORK_METHODS = ("draw(name,deed) rub(name) rename(name,fresh) outfit(chest) carry(chest) undo() point(name) word(name) "
+                "alike() poorest(name) tried(task) copy()")
 
 
 class InterfaceTests(unittest.TestCase):
@@ -62,6 +81,20 @@ class InterfaceTests(unittest.TestCase):
             for attribute in attributes:
                 self.assertIn(attribute, vars(made))
             self.assertIn("__eq__", vars(made.__class__))
+
+    def test_methods_of_works_and_desks(self):
+        from rulerchest.desk import Desk
+        from rulerchest.works import Work
+        for made, entries in ((Work, WORK_METHODS), (Desk, "say(line)")):
+            for entry in entries.split():
+                word = entry.split("(")[0]
+                self.assertIn(word, vars(made))
+                shown = str(inspect.signature(vars(made)[word])).replace(" ", "").replace("self,", "").replace("self", "")
+                self.assertEqual(word + shown, entry)
+        for word in ("__len__", "__eq__", "__enter__", "__exit__"):
+            self.assertIn(word, vars(Work))
+        for word in ("first", "chest", "steps", "log"):
+            self.assertTrue(hasattr(Work(()), word))
 
     def test_the_package_itself_defines_nothing(self):
         import rulerchest

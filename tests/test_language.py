@@ -326,12 +326,17 @@ class LanguageTests(unittest.TestCase):
                 continue
             seen.add((name, called))
             for function, home in functions[name, called]:
+                own = {node.targets[0].id for node in ast.walk(function) if isinstance(node, ast.Assign)
+                       and isinstance(node.targets[0], ast.Name) and ast.unparse(node.value) == "[]"}
+                own -= {node.targets[0].id for node in ast.walk(function) if isinstance(node, ast.Assign)
+                        and isinstance(node.targets[0], ast.Name) and ast.unparse(node.value) != "[]"}
                 for node in ast.walk(function):
                     if isinstance(node, (ast.Attribute, ast.Subscript)):
                         self.assertIsInstance(node.ctx, ast.Load, (name, called, ast.unparse(node)))
                     if isinstance(node, ast.Call):
                         if isinstance(node.func, ast.Attribute):
-                            self.assertNotIn(node.func.attr, ("append", "extend", "pop", "setdefault", "update"))
+                            if getattr(node.func.value, "id", None) not in own:
+                                self.assertNotIn(node.func.attr, ("append", "extend", "pop", "setdefault", "update"))
                         elif (home.get(node.func.id, name), node.func.id) in functions:
                             todo.append((home.get(node.func.id, name), node.func.id))
         self.assertIn(("basis", "brought"), seen)
