@@ -9,7 +9,7 @@ from rulerchest.sketches import Sketch
 from rulerchest.sketchplaces import finish
 from rulerchest.sketchrows import has_roots, put_point
 from rulerchest.tools import is_drawing
-from rulerchest.verdicts import is_behind, set_of_point
+from rulerchest.verdicts import first_outside_of, is_behind, set_of_point
 
 
 def reaches(point, chest):
@@ -48,15 +48,6 @@ def carried(steps, chest):
             draw_deed(sketch, deed, points, points[name], chest)
             answer.extend(finish(sketch, name))
     return answer
-
-
-def first_outside_of(steps, points, chest):
-    """The name of the first step whose point is not in the set of the chest, None if there is none."""
-    word = word_of_tools(chest)
-    for name, _ in steps:
-        if is_behind(set_of_point(points[name]), word):
-            return name
-    return None
 
 
 def is_carried(steps, chest, value):

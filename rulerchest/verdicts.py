@@ -93,7 +93,11 @@ def first_beyond(steps, chest):
     """The name of the first step whose point is not in the set of the chest, None if there is none."""
     check_drawing(steps)
     check_chest(chest)
-    points = drawn(steps)
+    return first_outside_of(steps, drawn(steps), chest)
+
+
+def first_outside_of(steps, points, chest):
+    """The name of the first step whose point is not in the set of the chest, None if there is none."""
     word = word_of_tools(chest)
     for name, _ in steps:
         if is_behind(set_of_point(points[name]), word):

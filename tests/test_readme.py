@@ -22,7 +22,7 @@ class ReadmeTests(unittest.TestCase):
                 shown += 1
             else:
                 exec(compile(tree, "README", "exec"), names)
-        self.assertEqual(shown, 7)
+        self.assertEqual(shown, 13)
 
 
 if __name__ == "__main__":
