@@ -57,7 +57,8 @@ def marking(marks, point):
     if axis is not None:
         raise OutOfField(axis)
     points = points_with(marks)
-    for name in points:
+    # The order of the names in a dict has no meaning.
+    for name in sorted(points):
         if same_place(points[name], point):
             return ([], name)
     sketch = Sketch(list(marks))

@@ -129,6 +129,12 @@ class MarkingTests(unittest.TestCase):
             inside += self.check(marks, place if chance.random() < 0.5 else place[::-1]) is not None
         self.assertGreater(inside, 60)
 
+    def test_the_order_of_the_names_has_no_meaning(self):
+        marks = {"m": point(R2, 1), "k": point(R2, 1), "n": point(R3, 0)}
+        turned = {name: marks[name] for name in ("n", "k", "m")}
+        for place in (point(R2, 1), point(plus(R2, R3), times(R2, R3)), point(0, 5)):
+            self.assertEqual(marking(marks, place), marking(turned, place))
+
     def test_names_that_the_program_would_choose(self):
         self.check({"q1": point(R2, 1), "q3": point(R3, 5)}, point(plus(R2, R3), times(R2, R3)))
 
