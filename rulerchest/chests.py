@@ -99,9 +99,9 @@ def least_chests(word):
     return sorted(least)
 
 
-def is_part(part, chest):
-    """Whether the chest has all tools of the part."""
-    return all([tool in chest for tool in part])
+def is_part(part, names):
+    """Whether all items of the part, tools or names, are among the others."""
+    return all([name in names for name in part])
 
 
 def first_barred(steps, chest):

@@ -1,6 +1,7 @@
 """Marks: points that are given beforehand, and the field of their coordinates."""
 
 from rulerchest.basis import brought, padded, trimmed_value, value_product, value_sum
+from rulerchest.chests import is_part
 from rulerchest.errors import BadMarks, BadProduct, NotAlike, NotInField
 from rulerchest.fields import (
     Ground, are_marks, field_of, is_pair_of_sum, is_product, pairs_of, parting_of,
@@ -191,7 +192,7 @@ def enough(marks):
     least = []
     # With the smaller ones ahead, whatever is more than enough has one of those that were found as a part.
     for _, part in sorted([(len(part), part) for part in parts]):
-        if not any([all([name in part for name in known]) for known in least]):
+        if not any([is_part(known, part) for known in least]):
             if len(field_of(marks_with(marks, part)).products) == wanted:
                 least.append(part)
     return sorted(least)
