@@ -7,7 +7,7 @@ With t = x / y, y above zero, and k = root(1 + t t): root(x x + y y) is y k, and
 from rulerchest.numbers import fraction_of, over, plus, sign, times, trimmed
 from rulerchest.sketches import BASE, LEFT, TOP, UP, cost, line_of, meet_line, need, unit_up, whole_number
 from rulerchest.sketchsums import add_numbers, divide, multiply, put_whole, take_number, without_sign
-from rulerchest.squareroots import hyp, root
+from rulerchest.squareroots import root
 
 HYP_TOOLS = ("dividers", "strip", "compass", "corner", "halver", "gauge", "disc", "rims")
 ROOT_TOOLS = ("corner", "compass", "rims", "disc")
@@ -27,7 +27,7 @@ def put_diagonal(sketch, x, y, tool):
         return without_sign(sketch, x)
     if sign(x) == 0:
         return without_sign(sketch, y)
-    found = trimmed(hyp(x, y))
+    found = trimmed(root(trimmed(plus(times(x, x), times(y, y)))))
     if not sketch.knows(found):
         if tool == "dividers":
             by_dividers(sketch, found, x, y)
