@@ -4,7 +4,9 @@ from rulerchest.basis import trimmed_value
 from rulerchest.errors import BelowZero
 from rulerchest.numbers import check_number, negated, sign
 from rulerchest.reckonings import check_rows, moved_up, plain_rows, with_indexes, worked
-from rulerchest.rowbooks import RowBook, number_row, root_without_root
+from rulerchest.rowbooks import (
+    PART_BY_PART, ROOT_BY_ROOT, WITH_ROOT, RowBook, length_of_rows, number_row, root_without_root,
+)
 from rulerchest.squarelists import check_values
 from rulerchest.trees import check_real, is_low, is_real, low_paper
 
@@ -18,19 +20,21 @@ def made(number):
 
 def rows_made(number):
     """The rows of made, for a number that is real in every reading."""
-    return rows_of_value(trimmed_value(number.tower.basis, number.value), False)
+    return shorter_of([rows_in(number, manner, number_row) for manner in (PART_BY_PART, ROOT_BY_ROOT)])
 
 
-def rows_of_value(opened, rooted):
-    """The rows for a basis and a value over it; rooted tells whether there may be rows with the word root."""
-    basis, value = opened
-    book = RowBook(basis, rooted)
-    return ended(book.rows, number_row(book, value))
+def rows_in(number, manner, write):
+    """The rows of a book of this manner in which the function writes a row for the number, the last one."""
+    basis, value = trimmed_value(number.tower.basis, number.value)
+    book = RowBook(basis, manner)
+    place = write(book, value)
+    return book.rows[:place + 1]
 
 
-def ended(rows, place):
-    """The rows up to the one at a place, which is to be the last one."""
-    return rows[:place + 1]
+def shorter_of(reckonings):
+    """The first or the second of two reckonings, whichever needs fewer points when it is drawn."""
+    first, second = reckonings
+    return second if length_of_rows(second) < length_of_rows(first) else first
 
 
 def made_root(number):
@@ -43,9 +47,7 @@ def made_root(number):
 
 def rows_of_root(number):
     """The rows of made_root, for a number that is never below zero."""
-    basis, value = trimmed_value(number.tower.basis, number.value)
-    book = RowBook(basis, False)
-    return ended(book.rows, root_without_root(book, value))
+    return shorter_of([rows_in(number, manner, root_without_root) for manner in (PART_BY_PART, ROOT_BY_ROOT)])
 
 
 def made_anyhow(number):
@@ -56,7 +58,7 @@ def made_anyhow(number):
 
 def rows_anyhow(number):
     """The rows of made_anyhow."""
-    return rows_of_value(trimmed_value(number.tower.basis, number.value), True)
+    return rows_in(number, WITH_ROOT, number_row)
 
 
 def diagonal(values):

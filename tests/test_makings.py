@@ -5,10 +5,11 @@ import unittest
 from drawn_inputs import random_rows
 from helpers import BESIDE, DEEP, NESTED, TOWERS, TWO, as_number, chance_with, odd_values, random_number
 from rulerchest.errors import BadRows, BadValues, BelowZero, NotNumber, NotReal, Unworked
-from rulerchest.makings import cleared, diagonal, made, made_anyhow, made_root
+from rulerchest.makings import cleared, diagonal, made, made_anyhow, made_root, rows_in
 from rulerchest.numbers import Number, fraction, minus, negated, plus, sign, times
 from rulerchest.polynomials import degree
 from rulerchest.reckonings import is_reckoning, kind_of, worked
+from rulerchest.rowbooks import PART_BY_PART, ROOT_BY_ROOT, length_of_rows, number_row, root_without_root
 from rulerchest.squarelists import total
 from rulerchest.squareroots import root
 from rulerchest.towers import Tower
@@ -200,6 +201,39 @@ class ClearedTests(unittest.TestCase):
         values = [R1, fraction(1)]
         diagonal(values)
         self.assertEqual(values, [R1, fraction(1)])
+
+
+class MannersTests(unittest.TestCase):
+    """Both ways without the word root, whichever is the shorter one."""
+
+    def test_each_manner(self):
+        shorter = set()
+        for number in numbers_of_all_shapes(64, 200):
+            if is_real(number):
+                lengths = []
+                for manner in (PART_BY_PART, ROOT_BY_ROOT):
+                    rows = rows_in(number, manner, number_row)
+                    lengths.append(length_of_rows(rows))
+                    self.assertEqual(worked(rows)[-1], number)
+                    self.assertEqual(count_roots(rows), 0)
+                    if is_low(number):
+                        rows = rows_in(number, manner, root_without_root)
+                        self.assertEqual(times(worked(rows)[-1], worked(rows)[-1]), number)
+                        self.assertEqual(count_roots(rows), 0)
+                self.assertEqual(length_of_rows(made(number)), min(lengths))
+                shorter.add((lengths[0] > lengths[1]) - (lengths[0] < lengths[1]))
+        self.assertEqual(shorter, {-1, 0, 1})
+
+    def test_a_root_that_is_not_real_in_every_reading(self):
+        # With r1 = root(2), r2 = root(r1) and r3 = root(3 r1) the Number r2 r3 = root(6) is real in every reading.
+        tower = Tower((((2, 1),), ((0, 1), (1, 1)), ((0, 1), (3, 1), (0, 1), (0, 1))))
+        number = Number(tower, ((1, 1),) + ((0, 1),) * 5 + ((1, 1), (0, 1)))
+        self.assertEqual(number, plus(fraction(1), root(fraction(6))))
+        self.assertTrue(is_real(number))
+        for manner in (PART_BY_PART, ROOT_BY_ROOT):
+            rows = rows_in(number, manner, number_row)
+            self.assertEqual(worked(rows)[-1], number)
+            self.assertEqual(count_roots(rows), 0)
 
 
 class FactsTests(unittest.TestCase):
