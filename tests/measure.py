@@ -2,12 +2,13 @@
 
 import sys
 import time
+from fractions import Fraction
 
 from drawn_inputs import (
     GREAT_TOOLS, MIDDLE_TOOLS, ROOTED, SHALLOW, random_deed, random_drawing, random_marks, random_point, random_rows,
     small_fraction,
 )
-from helpers import TOWERS, chance_with, random_number
+from helpers import TOWERS, chance_with, pair, random_number
 from rulerchest.carrying import carried, drawing_of, is_carried, reaches
 from rulerchest.chests import set_of
 from rulerchest.deeds import deed_steps, hyp_steps, root_steps, worked_steps
@@ -22,6 +23,7 @@ from rulerchest.markings import first_strange, is_marking, marking, started
 from rulerchest.marks import (
     as_sum, base, enough, field_paper, first_outside, first_parting, in_field, is_field_paper, needless, size, value_of,
 )
+from rulerchest.numbers import Number, fraction, plus, times
 from rulerchest.reckonings import worked
 from rulerchest.tools import NAME_COUNTS, laid
 from rulerchest.works import Work
@@ -47,9 +49,9 @@ class Watch:
 
     def show(self):
         """A line for everything that was measured, in milliseconds."""
-        for kind, times in self.times.items():
-            print(f"{kind:44} {len(times):5} times  average {1000 * sum(times) / len(times):8.3f}"
-                  f"  longest {1000 * max(times):8.3f}")
+        for kind, taken in self.times.items():
+            print(f"{kind:50} {len(taken):5} times  average {1000 * sum(taken) / len(taken):8.3f}"
+                  f"  longest {1000 * max(taken):8.3f}")
 
 
 def measure_makings(watch, chance, many):
@@ -100,6 +102,24 @@ def draw_all(place, chest):
     for _ in range(3):
         drawn(steps)
     return steps
+
+
+def full_number(chance, tower):
+    """A Number over the tower all of whose parts are fractions of one digit other than zero."""
+    return Number(tower, tuple(pair(Fraction(chance.choice((-1, 1)) * chance.randint(1, 9), chance.randint(1, 9)))
+                               for _ in range(2 ** len(tower.squares))))
+
+
+def measure_full_numbers(watch, chance, many):
+    for _ in range(many):
+        for most in (1, 2):
+            number = full_number(chance, chance.choice([tower for tower in TOWERS if len(tower.squares) == most]))
+            square = plus(times(number, number), fraction(chance.randint(1, 5)))
+            watch.run(f"made, {most} roots, all parts, worked", lambda: worked(made(number)))
+            watch.run(f"made_root, {most} roots, all parts, worked", lambda: worked(made_root(square)))
+            chest = (chance.choice(GREAT_TOOLS + MIDDLE_TOOLS),)
+            place = (small_fraction(chance), number)
+            watch.run(f"drawing_of, {most} roots, all parts, laid 3 times", lambda: draw_all(place, chest))
 
 
 def measure_deeds(watch, chance, many):
@@ -215,7 +235,7 @@ def main():
     many = int(sys.argv[1]) if len(sys.argv) > 1 else 300
     watch = Watch()
     for number, measured in enumerate((measure_drawn, measure_makings, measure_carried, measure_drawing_of, measure_deeds,
-                                       measure_marks, measure_works)):
+                                       measure_marks, measure_works, measure_full_numbers)):
         measured(watch, chance_with(number), many)
     watch.show()
 
